@@ -1,0 +1,74 @@
+"""The interface: the names and parameters of what there is, each in its own file."""
+
+import importlib
+import inspect
+import unittest
+
+FUNCTIONS = {
+    "debates": ["objectors(debate, statement)", "objected(debate, statement)"],
+    "lots": [
+        "answered(debate, lot)", "is_lot(debate, way, thing)", "lots_of(debate, way)", "least_lot(debate)",
+        "fault_of(debate, way, lot)",
+    ],
+    "labels": ["is_labelling(debate, thing)", "labels_of(debate, lot)", "stands(debate, way, statement, how)"],
+    "otherdebates": [
+        "cut_to(debate, lot)", "without(debate, lot)", "renamed(debate, names)", "joined(one, other)",
+        "turned(debate)",
+    ],
+    "ranking": ["rank_of(debate, statement)", "ranks_of(debate)", "stages(debate)", "left_ring(debate)"],
+    "doubts": [
+        "is_doubt(debate, statement, thing)", "greatest_doubt(debate)", "smallest_doubt(debate, statement)",
+    ],
+    "talks": [
+        "least_talk(debate, statement, defender, opposer)", "winning_defender(debate, statement)",
+        "winning_opposer(debate, statement)", "beat_defender(debate, statement, defender)",
+        "beat_opposer(debate, statement, opposer)", "least_talk_length(debate, statement)",
+        "best_talk(debate, statement)",
+    ],
+    "defences": ["is_defence(debate, statement, thing)", "fewest_defence(debate, statement)"],
+    "heldtalks": [
+        "held_talk(debate, statement, defender, opposer)", "held_plan(debate, statement)", "held_opposer(debate)",
+        "least_held(debate, statement)", "held_length(debate, statement)",
+    ],
+    "parts": [
+        "parts_of(debate)", "labels_by_parts(debate)", "lots_by_parts(debate, way)",
+        "stands_by_parts(debate, way, statement, how)",
+    ],
+    "oddrings": ["is_odd_ring(debate, thing)", "odd_ring(debate)", "why_unsettled(debate, lot)"],
+    "surelots": [
+        "lacking_lot(debate, statement)", "sure_lots(debate)", "sure_lot(debate)", "is_sure(debate, thing)",
+        "sure_paper(debate, statement)", "why_unsure(debate, lot)",
+    ],
+    "families": [
+        "pairs_in(family)", "kept_down(family)", "family_of(debate, kind)", "nearest_calm(family)",
+        "clashes(family, debate)", "crossed(one, other)",
+    ],
+    "bars": ["bar_of(family, kind)", "is_bar(family, kind, thing)", "kinds_for(family)"],
+    "builtdebates": ["debate_for(family, kind)", "exact_debates(family, kind)"],
+    "pieces": ["put_in(around, piece)", "cut_out(debate, lot)"],
+}
+CLASSES = {
+    "debates": {"Debate(statements, objections)": ["statements", "objections", "__len__", "__eq__"]},
+    "pieces": {"Piece(statements, ins, objections, outs)": ["parts", "__eq__"]},
+}
+
+
+class TestInterface(unittest.TestCase):
+    def test_functions(self):
+        for file, heads in FUNCTIONS.items():
+            module = importlib.import_module("objections." + file)
+            for head in heads:
+                name = head.split("(")[0]
+                told = getattr(module, name)
+                self.assertEqual(name + str(inspect.signature(told)), head)
+                self.assertEqual(told.__module__, "objections." + file)
+
+    def test_classes(self):
+        for file, heads in CLASSES.items():
+            module = importlib.import_module("objections." + file)
+            for head, methods in heads.items():
+                kind = getattr(module, head.split("(")[0])
+                self.assertEqual(kind.__name__ + str(inspect.signature(kind)), head)
+                self.assertEqual(kind.__module__, "objections." + file)
+                for method in methods:
+                    self.assertIn(method, vars(kind))
