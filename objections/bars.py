@@ -1,12 +1,12 @@
 """What bars a family from being that of a debate."""
 
-from objections.checks import is_list, is_name, names_key
+from objections.checks import is_list, names_key
 from objections.families import (
     KINDS, check_kind, is_part, lots_among, names_in, pairs_of_lots, pairs_up, read_family,
 )
 
-# What stands behind the word of a bar: how many lots, then how many names.
-FORMS = {"none": (0, 0), "within": (2, 0), "paired": (1, 0), "taken": (1, 1), "union": (2, 0)}
+# How many lots stand behind the word of a bar: these alone may be told in another order.
+LOTS_BEHIND = {"none": 0, "within": 2, "paired": 1, "taken": 1, "union": 2}
 
 
 def bar_of(family, kind):
@@ -21,8 +21,7 @@ def is_bar(family, kind, thing):
     """Whether any object is one of the bars that are so."""
     lots = read_family(family)
     check_kind(kind)
-    bar = read_bar(thing)
-    return bar is not None and bar in all_bars(lots, kind)
+    return read_bar(thing) in all_bars(lots, kind)
 
 
 def kinds_for(family):
@@ -32,16 +31,14 @@ def kinds_for(family):
 
 
 def read_bar(thing):
-    """Any object as a bar with ascending lots, None if it has not the form of one."""
-    if not is_list(thing) or not thing or not isinstance(thing[0], str) or thing[0] not in FORMS:
+    """Any object as a tuple with ascending lots where a bar has lots, None if it can be none."""
+    if not is_list(thing) or not thing or not isinstance(thing[0], str) or thing[0] not in LOTS_BEHIND:
         return None
-    lots, names = FORMS[thing[0]]
-    if len(thing) != 1 + lots + names:
+    behind = 1 + LOTS_BEHIND[thing[0]]
+    keys = [names_key(lot) for lot in thing[1:behind]]
+    if None in keys:
         return None
-    keys = [names_key(lot) for lot in thing[1:1 + lots]]
-    if None in keys or not all([is_name(name) for name in thing[1 + lots:]]):
-        return None
-    return tuple([thing[0]] + [list(key) for key in keys] + list(thing[1 + lots:]))
+    return tuple([thing[0]] + [list(key) for key in keys] + list(thing[behind:]))
 
 
 def all_bars(lots, kind):
@@ -68,7 +65,7 @@ def within_bars(lots, kind):
     if kind == "calm":
         ones = [lot for lot in lots_among(names_in(lots)) if lot not in lots]
     pairs = [(one, other) for one in ones for other in lots if one != other and is_part(one, other)]
-    return [("within", list(one), list(other)) for one, other in pairs]
+    return [("within", one, other) for one, other in pairs]
 
 
 def paired_bars(lots, kind):
@@ -88,7 +85,7 @@ def taken_bars(lots, kind):
         return []
     pairs = pairs_of_lots(lots)
     return [
-        ("taken", list(lot), name) for lot in lots for name in names_in(lots)
+        ("taken", lot, name) for lot in lots for name in names_in(lots)
         if name not in lot and all([(min(name, member), max(name, member)) in pairs for member in lot])
     ]
 
@@ -103,5 +100,5 @@ def union_bars(lots, kind):
         for other in lots[place + 1:]:
             union = sorted(set(one + other))
             if union not in lots and pairs_up(union, pairs):
-                bars.append(("union", list(one), list(other)))
+                bars.append(("union", one, other))
     return bars

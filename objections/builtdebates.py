@@ -1,6 +1,6 @@
 """Debates that are built for a family of lots, and all of them on its names alone."""
 
-from objections.bars import bar_of
+from objections.bars import all_bars
 from objections.debates import Debate
 from objections.families import (
     check_kind, family_of, is_part, lots_among, names_in, pairs_of_lots, pairs_up, read_family,
@@ -11,7 +11,7 @@ def debate_for(family, kind):
     """A debate whose family of the kind is just this, None if there is none."""
     lots = read_family(family)
     check_kind(kind)
-    if bar_of(lots, kind) is not None:
+    if all_bars(lots, kind):
         return None
     names = names_in(lots)
     further = further_objectors(lots, kind)

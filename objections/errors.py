@@ -227,7 +227,7 @@ class BadWorths(DebateError):
 
 
 class CanBeTold(DebateError):
-    pass
+    """Told where the asker may know within so many questions."""
 
 
 class HasDoubt(DebateError):
@@ -246,7 +246,7 @@ class InUse(DebateError):
 
 
 class IsEnough(DebateError):
-    pass
+    """Told where so many questions are enough for a right tree."""
 
 
 class IsObjected(DebateError):
@@ -353,7 +353,7 @@ class NotWhole(DebateError):
 
 
 class NothingFits(DebateError):
-    pass
+    """Told where no debate fits."""
 
 
 class SharedName(DebateError):
@@ -367,11 +367,11 @@ class TakenName(DebateError):
 
 
 class UnlikeClaims(DebateError):
-    pass
+    """Told of rules that have not the same claims."""
 
 
 class UnlikeGates(DebateError):
-    pass
+    """Told of pieces that have not as many gates."""
 
 
 class WouldChange(DebateError):
