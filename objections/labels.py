@@ -6,7 +6,6 @@ from objections.errors import BadHow, NotWhole
 from objections.lotmasks import WAYS, check_way, hit_by, lot_mask, masks_of
 from objections.lots import fault_of
 
-LABELS = ("in", "out", "undecided")
 HOWS = ("some", "all", "none")
 
 
@@ -15,7 +14,7 @@ def is_labelling(debate, thing):
     if not isinstance(thing, dict) or len(thing) != len(debate):
         return False
     names = debate.statements()
-    if not all([name in thing and is_word(thing[name], LABELS) for name in names]):
+    if not all([name in thing for name in names]):
         return False
     return all([thing[name] == label_for(debate, thing, name) for name in names])
 

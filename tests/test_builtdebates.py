@@ -68,6 +68,14 @@ class TestBuilt(unittest.TestCase):
             held = lots_of_kind(debate, "held")
             self.assertEqual(family_of(debate_for(held, "held"), "held"), held)
 
+    def test_settled_without_a_lot_that_pairs_up(self):
+        ring = [["a", "b", "x"], ["b", "c", "y"], ["a", "c", "z"]]
+        for family in (ring, ring + [["a", "b", "c"]]):
+            debate = debate_for(family, "settled")
+            self.assertEqual(lots_by_words(debate, "settled"), sorted(family))
+            self.check(family, "settled", debate)
+            self.assertIsNone(debate_for(family + [["x", "y"]], "settled"))
+
     def test_fresh_names(self):
         family = [[], ["x0", "x1"], ["x2"]]
         debate = debate_for(kind="held", family=family)

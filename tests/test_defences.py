@@ -53,6 +53,19 @@ class TestDefences(unittest.TestCase):
                     around = set(defence) | {one for member in defence for one in met(debate, member)}
                     self.assertTrue(set(defence) <= set(least_lot(cut(debate, sorted(around)))))
 
+    def test_the_first_of_several(self):
+        names = ["a", "b", "c", "d", "m", "n", "s"]
+        for objections in (
+            [("m", "s"), ("n", "s"), ("a", "m"), ("c", "m"), ("b", "n"), ("d", "n")],
+            [("m", "s"), ("n", "s"), ("b", "m"), ("d", "m"), ("a", "n"), ("c", "n")],
+        ):
+            self.assertEqual(fewest_defence(Debate(names, objections), "s"), ["a", "b", "s"])
+            other = {"a": "z", "b": "y", "c": "x", "d": "w", "m": "m", "n": "n", "s": "s"}
+            turned = Debate(list(other.values()), [(other[one], other[name]) for one, name in objections])
+            self.assertEqual(fewest_defence(turned, "s"), ["s", "w", "x"])
+        both = Debate(names, [("m", "s"), ("n", "s"), ("a", "m"), ("b", "n"), ("d", "m"), ("d", "n")])
+        self.assertEqual(fewest_defence(both, "s"), ["d", "s"])
+
     def test_any_object(self):
         odd = [["c"], ["a", "c", "c"], ["a", "x"], {"a": 1, "c": 2}, "ac", ["a"], ["a", "b", "c"]]
         for thing in any_objects() + odd:

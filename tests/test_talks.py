@@ -268,6 +268,18 @@ class TestHowLong(unittest.TestCase):
                 rank = rank_of(debate, name)
                 self.assertEqual(length, None if rank is None else 2 * rank + 1)
 
+    def test_the_opposer_makes_it_long(self):
+        for short, far in (("o", "p"), ("p", "o")):
+            debate = Debate(["a", "b", "c", "d", "o", "p", "s"], [
+                (short, "s"), (far, "s"), ("a", short), ("b", far), ("c", "b"), ("d", "c"),
+            ])
+            self.assertEqual(best_talk(debate, "s"), ["s", far, "b", "c", "d"])
+            self.assertEqual(least_talk_length(debate, "s"), 5)
+
+    def test_the_defender_makes_it_short(self):
+        debate = Debate(["a", "b", "c", "d", "o", "s"], [("o", "s"), ("a", "o"), ("d", "o"), ("b", "a"), ("c", "b")])
+        self.assertEqual(best_talk(debate, "s"), ["s", "o", "d"])
+
     def test_best_talks(self):
         for debate in small_debates() + drawn_debates(30, 8, 7):
             for name in debate.statements():
