@@ -29,7 +29,12 @@ class TestBuilt(unittest.TestCase):
             self.assertIn((name, name), debate.objections())
         self.assertEqual(exact_debates(family, "held"), [])
         near = F[:2] + [[], ["a"], ["b"], ["c"]]
-        self.assertEqual(len(exact_debates(near, "calm")), 3)
+        clashing = Debate(["a", "b", "c"], [("b", "c")])
+        self.assertEqual(lots_by_words(clashing, "calm"), sorted(near))
+        turned, both = [("c", "b")], [("b", "c"), ("c", "b")]
+        self.assertEqual(exact_debates(near, "calm"), [
+            clashing, Debate(["a", "b", "c"], turned), Debate(["a", "b", "c"], both),
+        ])
 
     def test_just_one_built_or_barred(self):
         for family in families(["a", "b"]) + families(["a", "b", "c"]):

@@ -84,6 +84,8 @@ class TestWhyUnsettled(unittest.TestCase):
                     labels = labels_of(debate, lot)
                     self.assertTrue(is_ring(debate, ring) and len(ring) & 1)
                     self.assertEqual({labels[name] for name in ring}, {"undecided"})
+                    other = Debate(debate.statements()[::-1], debate.objections()[::-1])
+                    self.assertEqual(why_unsettled(other, tuple(lot)), ring)
 
     def test_bad_lot(self):
         for thing in not_lists():

@@ -161,6 +161,20 @@ class TestWhoWins(unittest.TestCase):
         told = least_talk(EXAMPLE, "b", teller("e"), winning_opposer(EXAMPLE, "b"))
         self.assertEqual(told, (["b", "a"], "opposer", "wrong"))
 
+    def test_the_same_for_equal_debates(self):
+        for debate in drawn_debates(20, 6, 23):
+            other = Debate(tuple(debate.statements()[::-1]), [list(pair) for pair in debate.objections()[::-1]])
+            for name in debate.statements():
+                if rank_of(debate, name) is None:
+                    def talker(said, debate=debate):
+                        return max(met(debate, said[-1]), default=None)
+                    self.assertEqual(beat_defender(debate, name, talker), beat_defender(other, name, talker))
+                else:
+                    defenders = winning_defender(debate, name), winning_defender(other, name)
+                    for objector in met(debate, name):
+                        told = [defender((name, objector)) for defender in defenders]
+                        self.assertEqual(told[0], told[1])
+
     def test_by_names_and_alike(self):
         defender = winning_defender(statement="c", debate=EXAMPLE)
         self.assertEqual(defender(("c", "b")), "a")
