@@ -23,7 +23,7 @@ def least_talk(debate, statement, defender, opposer):
         why = take_turn(debate, said, opposer, [])
         if why is not None:
             return (said, "defender", why)
-        why = take_turn(debate, said, defender, said)
+        why = take_turn(debate, said, defender, said[::2])
         if why is not None:
             return (said, "opposer", why)
 

@@ -48,6 +48,15 @@ class TestLeastTalk(unittest.TestCase):
         debate = Debate(["a", "b", "c"], [("b", "a"), ("c", "b")])
         self.assertEqual(least_talk(debate, "a", teller("a"), teller("b")), (["a", "b"], "opposer", "wrong"))
 
+    def test_a_defender_may_say_what_the_opposer_has_said(self):
+        ring = Debate(["a", "b", "c"], [("c", "a"), ("b", "c"), ("a", "b")])
+        told = least_talk(ring, "a", teller("b", "c", "a"), teller("c", "a", "b"))
+        self.assertEqual(told, (["a", "c", "b", "a", "c", "b"], "opposer", "again"))
+        told = least_talk(ring, "a", teller("b", "c", None), teller("c", "a", "b"))
+        self.assertEqual(told, (["a", "c", "b", "a", "c", "b"], "opposer", "nothing"))
+        told = least_talk(ring, "a", teller("b", "c"), teller("c", "a", None))
+        self.assertEqual(told, (["a", "c", "b", "a", "c"], "defender", "nothing"))
+
     def test_an_opposer_may_say_a_thing_again(self):
         debate = Debate(["a", "b", "c"], [("b", "a"), ("c", "b"), ("b", "c"), ("a", "b")])
         told = least_talk(debate, "a", teller("c", "a"), teller("b", "b"))
@@ -109,7 +118,7 @@ def defender_wins(debate, said, defender):
     """Whether a defender wins against each opposer, told with what was said before its turn."""
     for objector in met(debate, said[-1]):
         told = defender(tuple(said) + (objector,))
-        if told not in met(debate, objector) or told in said[::2] or told in said + [objector]:
+        if told not in met(debate, objector) or told in said[::2]:
             return False
         if not defender_wins(debate, said + [objector, told], defender):
             return False
@@ -122,7 +131,7 @@ def opposer_wins(debate, said, opposer):
     if told not in met(debate, said[-1]):
         return False
     return all(
-        answer in said + [told] or opposer_wins(debate, said + [told, answer], opposer)
+        answer in said[::2] or opposer_wins(debate, said + [told, answer], opposer)
         for answer in met(debate, told)
     )
 
@@ -133,7 +142,7 @@ def best_length(debate, said):
     for objector in met(debate, said[-1]):
         found = [
             best_length(debate, said + [objector, answer]) for answer in met(debate, objector)
-            if answer not in said + [objector]
+            if answer not in said[::2]
         ]
         found = [length for length in found if length is not None]
         if not found:
