@@ -61,6 +61,8 @@ class TestLeastTalk(unittest.TestCase):
         debate = Debate(["a", "b", "c"], [("b", "a"), ("c", "b"), ("b", "c"), ("a", "b")])
         told = least_talk(debate, "a", teller("c", "a"), teller("b", "b"))
         self.assertEqual(told, (["a", "b", "c", "b"], "opposer", "again"))
+        told = least_talk(debate, "a", teller("c", "c"), teller("b", "b"))
+        self.assertEqual(told, (["a", "b", "c", "b"], "opposer", "again"))
 
     def test_what_talkers_are_handed(self):
         heard = []
