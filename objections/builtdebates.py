@@ -5,6 +5,7 @@ from objections.debates import Debate
 from objections.families import (
     check_kind, family_of, is_part, lots_among, names_in, pairs_of_lots, pairs_up, read_family,
 )
+from objections.freshnames import fresh_names
 
 
 def debate_for(family, kind):
@@ -67,12 +68,6 @@ def outside_names(lots):
     paired = [lot for lot in lots_among(names) if pairs_up(lot, pairs)]
     tops = [lot for lot in paired if not any([lot != other and is_part(lot, other) for other in paired])]
     return [[name for name in names if name not in lot] for lot in tops if lot not in lots]
-
-
-def fresh_names(names, many):
-    """So many names that are none of these."""
-    fresh = [f"x{number}" for number in range(many + len(names))]
-    return [name for name in fresh if name not in names][:many]
 
 
 def exact_debates(family, kind):

@@ -25,6 +25,21 @@ def is_word(thing, words):
     return isinstance(thing, str) and thing in words
 
 
+def is_integer(thing):
+    """Whether a thing is an integer, which truths are not."""
+    return isinstance(thing, int) and not isinstance(thing, bool)
+
+
+def is_number(thing):
+    """Whether a thing is an integer from 0 on."""
+    return is_integer(thing) and thing >= 0
+
+
+def is_index(thing, many):
+    """Whether a thing is an integer from 0 on, below so many."""
+    return is_number(thing) and thing < many
+
+
 def is_function(thing):
     """Whether a thing is a function: all that callers may pass besides are of these kinds."""
     return thing is not None and not isinstance(thing, (int, str, list, tuple, dict, Thing, DebateError))

@@ -75,10 +75,15 @@ def is_statement(debate, thing):
     return is_word(thing, debate._places)
 
 
+def check_statement(names, statement):
+    """NoStatement for any object that is none of the names of statements."""
+    if not is_word(statement, names):
+        raise NoStatement(statement)
+
+
 def place_of(debate, statement):
     """The place of a statement in the ascending list, or NoStatement."""
-    if not is_statement(debate, statement):
-        raise NoStatement(statement)
+    check_statement(debate._places, statement)
     return debate._places[statement]
 
 

@@ -5,6 +5,7 @@ from objections.debates import objectors, place_of
 from objections.errors import BadHow, NotWhole
 from objections.lotmasks import WAYS, check_way, hit_by, lot_mask, masks_of
 from objections.lots import fault_of
+from objections.marks import labels_by
 
 HOWS = ("some", "all", "none")
 
@@ -38,13 +39,7 @@ def labels_of(debate, lot):
 
 def labels_at(debate, ins, outs):
     """The dict of labels, ascending, from the masks of who is in and who is out."""
-    labels = {}
-    for place, name in enumerate(debate.statements()):
-        if ins >> place & 1:
-            labels[name] = "in"
-        else:
-            labels[name] = "out" if outs >> place & 1 else "undecided"
-    return labels
+    return labels_by(debate.statements(), (ins, outs))
 
 
 def stands(debate, way, statement, how):

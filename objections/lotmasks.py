@@ -14,11 +14,16 @@ def check_way(way, ways):
         raise BadWay(way)
 
 
-def lot_mask(debate, lot):
-    """The mask of a lot, or BadLot."""
-    index = wrong_word(lot, debate.statements())
+def check_lot(names, lot):
+    """BadLot for any object that is no list of unlike names of statements."""
+    index = wrong_word(lot, names)
     if index is not None:
         raise BadLot(index)
+
+
+def lot_mask(debate, lot):
+    """The mask of a lot, or BadLot."""
+    check_lot(debate.statements(), lot)
     return mask_at(debate, lot)
 
 

@@ -1,9 +1,16 @@
 """Lots of places as integers: the bit of a place is set if the lot has it."""
 
 
+def first_place(mask):
+    """The first place of a mask that has some."""
+    return (mask & -mask).bit_length() - 1
+
+
 def places_in(mask):
     """The places of a mask, ascending."""
-    return [place for place in range(mask.bit_length()) if mask >> place & 1]
+    if mask == 0:
+        return []
+    return [place for place in range(first_place(mask), mask.bit_length()) if mask >> place & 1]
 
 
 def count_of(mask):
@@ -22,6 +29,18 @@ def union_at(masks, places):
     for place in places_in(places):
         union = union | masks[place]
     return union
+
+
+def reached_from(start, steps, within):
+    """The start, and all places to which steps lead from it, one behind another, within a mask."""
+    found = start
+    new = start
+    while new:
+        bit = new & -new
+        more = steps[bit.bit_length() - 1] & within & ~found
+        found = found | more
+        new = (new ^ bit) | more
+    return found
 
 
 def topmost(masks):

@@ -1,67 +1,67 @@
 """Parts: statements that hang together, and labellings that are made part by part."""
 
-from objections.debates import against, names_at, place_of, towards
+from objections.debates import against, full_mask, place_of
 from objections.labels import check_how, labels_at, stands_among
 from objections.lotmasks import check_way
-from objections.masks import lies_in, places_in, topmost, union_at
+from objections.masks import places_in, reached_from
+from objections.partmarks import marks_of_way, parts_in_turn
 
 PART_WAYS = ("whole", "least", "greatest", "settled")
 
 
 def parts_of(debate):
     """The greatest lots that hang together, those ahead whose objections lead to others."""
-    return [names_at(debate, part) for part in part_masks(debate)]
-
-
-def part_masks(debate):
-    """Likewise as masks."""
-    waiting = tied_masks(debate)
-    met = [union_at(against(debate), part) & ~part for part in waiting]
-    taken = 0
-    parts = []
-    while len(parts) < len(waiting):
-        # The parts come by their first names, so the first one that is free has the first name.
-        free = [part for part, mets in zip(waiting, met) if not part & taken and lies_in(mets, taken)]
-        parts.append(free[0])
-        taken = taken | free[0]
-    return parts
-
-
-def tied_masks(debate):
-    """The greatest lots that hang together, by their first names."""
-    reached = reached_masks(debate)
-    found = []
-    taken = 0
-    for place, reach in enumerate(reached):
-        if not taken >> place & 1:
-            part = 1 << place
-            for other in places_in(reach):
-                if reached[other] >> place & 1:
-                    part = part | (1 << other)
-            found.append(part)
-            taken = taken | part
-    return found
-
-
-def reached_masks(debate):
-    """For each place all to which objections lead from it, one behind another."""
-    reached = list(towards(debate))
-    for middle in range(len(debate)):
-        for start in range(len(debate)):
-            if reached[start] >> middle & 1:
-                reached[start] = reached[start] | reached[middle]
-    return reached
+    names = debate.statements()
+    parts = parts_in_turn(debate, full_mask(debate), False)
+    return [[names[place] for place in places_in(part)] for part in parts]
 
 
 def labels_by_parts(debate):
     """The list of all labellings, as the lists of their in ones compare."""
-    return [labels_at(debate, ins, outs) for ins, outs in marks_by_parts(debate, "whole")]
+    rows = marks_by_parts(debate, "whole")
+    same_ins = full_mask(debate)
+    same_outs = full_mask(debate)
+    some = 0
+    for ins, outs in rows:
+        same_ins = same_ins & ins
+        same_outs = same_outs & outs
+        some = some | ins | outs
+    # Most labels are alike in all labellings: they are told once, and copied.
+    told = labels_at(debate, same_ins, same_outs)
+    names = debate.statements()
+    others = [(names[place], 1 << place) for place in places_in(some & ~(same_ins | same_outs))]
+    return [labels_beside(told, others, ins, outs) for ins, outs in rows]
+
+
+def labels_beside(told, others, ins, outs):
+    """A copy of told labels with those of some others, undecided so far."""
+    labels = dict(told)
+    for name, bit in others:
+        if ins & bit:
+            labels[name] = "in"
+        elif outs & bit:
+            labels[name] = "out"
+    return labels
 
 
 def lots_by_parts(debate, way):
     """The ascending list of the lots of a way."""
     check_way(way, PART_WAYS)
-    return [names_at(debate, ins) for ins, _ in marks_by_parts(debate, way)]
+    names = debate.statements()
+    return [[names[place] for place in places_in(ins)] for ins, _ in marks_by_parts(debate, way)]
+
+
+def marks_by_parts(debate, way):
+    """The labellings of a way as marks, by the lists of who is in."""
+    rows = marks_of_way(debate, full_mask(debate), way, (0, 0))
+    return sorted(rows, key=lambda row: order_key(row[0]))
+
+
+def order_key(mask):
+    """A string by which masks compare as the lists of their places do."""
+    # From the first place on: who is in comes ahead of who is not, a list's end ahead of both.
+    signs = f"{mask:b}"
+    return signs[::-1].replace("0", "b").rstrip("b")
 
 
 def stands_by_parts(debate, way, statement, how):
@@ -69,76 +69,9 @@ def stands_by_parts(debate, way, statement, how):
     check_way(way, PART_WAYS)
     place = place_of(debate, statement)
     check_how(how)
-    return stands_among([ins >> place & 1 == 1 for ins, _ in marks_by_parts(debate, way)], how)
-
-
-def marks_by_parts(debate, way):
-    """The labellings of a way as pairs of masks, who is in and who is out, by the lists of the former."""
-    rows = [(0, 0)]
-    for part in part_masks(debate):
-        known = {}
-        grown = []
-        for ins, outs in rows:
-            state = state_of(debate, part, ins, outs)
-            if state not in known:
-                known[state] = marks_in(debate, part, state, way)
-            grown.extend([(ins | more, outs | others) for more, others in known[state]])
-        rows = grown
-    return sorted(rows, key=lambda row: names_at(debate, row[0]))
-
-
-def state_of(debate, part, ins, outs):
-    """Which members of a part are put out from without, and which are kept from being in."""
-    beaten = 0
-    barred = 0
-    for place in places_in(part):
-        outer = against(debate)[place] & ~part
-        if outer & ins:
-            beaten = beaten | (1 << place)
-        if not lies_in(outer, outs):
-            barred = barred | (1 << place)
-    return (beaten, barred)
-
-
-def marks_in(debate, part, state, way):
-    """The labellings of a part of the way, behind what is so ahead, as pairs of masks."""
-    beaten, barred = state
-    found = []
-    for lot, hits in calm_within(debate, part & ~barred):
-        outs = (beaten | hits) & part
-        if free_in(debate, part & ~barred, part & ~outs) == lot:
-            found.append((lot, outs))
-    return kept_of(found, part, way)
-
-
-def calm_within(debate, places):
-    """The calm lots of some places, each with all to which it objects."""
-    rows = [(0, 0)]
-    for place in places_in(places):
-        bit = 1 << place
-        hit = towards(debate)[place]
-        if not hit & bit:
-            rows = rows + [(lot | bit, hits | hit) for lot, hits in rows if not (hits & bit or hit & lot)]
-    return rows
-
-
-def free_in(debate, places, standing):
-    """Those of some places to which nothing objects that is standing."""
-    free = 0
-    for place in places_in(places):
-        if not against(debate)[place] & standing:
-            free = free | (1 << place)
-    return free
-
-
-def kept_of(rows, part, way):
-    """Those of all labellings of a part that are of the way."""
-    if way == "whole":
-        return rows
-    if way == "settled":
-        return [(ins, outs) for ins, outs in rows if ins | outs == part]
-    lots = [ins for ins, _ in rows]
-    if way == "least":
-        return [(ins, outs) for ins, outs in rows if all([lies_in(ins, lot) for lot in lots])]
-    tops = topmost(lots)
-    return [(ins, outs) for ins, outs in rows if ins in tops]
+    within = full_mask(debate)
+    if way != "settled":
+        # What does not lead to the statement is labelled in some way whatever is so ahead.
+        within = reached_from(1 << place, against(debate), within)
+    rows = marks_of_way(debate, within, way, (0, 0))
+    return stands_among([ins >> place & 1 == 1 for ins, _ in rows], how)

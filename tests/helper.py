@@ -5,13 +5,40 @@ Nothing here calls the package but to make debates and to read their two lists.
 
 import itertools
 import random
+import unittest
 
 from objections.debates import Debate
 from objections.errors import BadLot, DebateError
+from objections.groups import Grouped
 from objections.pieces import Piece
+from objections.tables import Tabled
 
 WAYS = ["calm", "held", "whole", "least", "greatest", "settled"]
 HOWS = ["some", "all", "none"]
+LABELS = ["in", "out", "undecided"]
+
+
+class Case(unittest.TestCase):
+    """A test case that also tells of errors."""
+
+    def refuses(self, kind, kept, call, *given, **named):
+        """Whether a call raises just this error, which keeps just these things: the very ones under "thing"."""
+        with self.assertRaises(kind) as caught:
+            call(*given, **named)
+        self.assertIs(type(caught.exception), kind)
+        self.assertEqual(list(vars(caught.exception)), list(kept))
+        for name, value in kept.items():
+            told = getattr(caught.exception, name)
+            if name == "thing":
+                self.assertIs(told, value)
+            else:
+                self.assertEqual(told, value)
+                self.assertIs(type(told), type(value))
+
+    def refuses_no_lists(self, kind, call, *given):
+        """Whether a call raises such an error with index 0 for what is no list, put behind the others."""
+        for thing in not_lists():
+            self.refuses(kind, {"index": 0}, call, *given, thing)
 
 
 def ignored(*_):
@@ -24,6 +51,7 @@ def any_objects():
         0, 1, -7, 10 ** 40, True, False, None, "", "a", "ab", "A", "zz9", [], (), {}, [[]], [["a"]], ["a", "a"],
         [None], [True], [1], [[], []], ("none",), {"a": "b"}, {1: 2}, {("a", "b"): []}, {None: None}, ignored, len,
         Debate([], []), Debate(["a"], [("a", "a")]), Piece(["a"], ["g"], [("g", "a")], ["a"]), BadLot(0), DebateError(),
+        Grouped(["a"], [([], "a")], []), Tabled([("a", [], [])]),
     ]
 
 
@@ -37,6 +65,22 @@ def not_functions():
     return [thing for thing in any_objects() if thing is not ignored and thing is not len]
 
 
+def not_pieces():
+    """Those of them that are no pieces, and what a piece looks like."""
+    return [thing for thing in any_objects() if not isinstance(thing, Piece)] + [([], [], [], [])]
+
+
+def not_words(words):
+    """Those of them that are none of some words, and what nearly is one."""
+    odd = [thing for thing in any_objects() if not (isinstance(thing, str) and thing in words)]
+    return odd + [[words[0]], words[0].upper(), words[0] + " "]
+
+
+def not_numbers():
+    """Those of them that are no integers from 0 on."""
+    return [thing for thing in any_objects() if type(thing) is not int or thing < 0]
+
+
 def not_statements(debate):
     """Those of them that are no statements of a debate."""
     return [thing for thing in any_objects() if not (isinstance(thing, str) and thing in debate.statements())]
@@ -47,6 +91,169 @@ def subsets(things):
     return sorted(
         list(lot) for many in range(len(things) + 1) for lot in itertools.combinations(things, many)
     )
+
+
+def label_rows(many, labels=None):
+    """All rows of so many labels, ascending."""
+    return list(itertools.product(labels or LABELS, repeat=many))
+
+
+def truth_rows(many):
+    """All rows of so many truths, ascending."""
+    return list(itertools.product([False, True], repeat=many))
+
+
+def drawn_pieces(many, size, ins, outs, seed, prefix=""):
+    """So many pieces of at most a size, with at most so many gates, drawn alike each time."""
+    draw = random.Random(seed)
+    found = []
+    for _ in range(many):
+        statements = [f"{prefix}s{at}" for at in range(draw.randint(0, size))]
+        gates = [f"{prefix}g{at}" for at in range(draw.randint(0, ins))]
+        share = draw.choice([0.2, 0.35, 0.5])
+        pairs = [(one, other) for one in statements + gates for other in statements if draw.random() < share]
+        draw.shuffle(gates)
+        exits = draw.sample(statements, min(len(statements), draw.randint(0, outs)))
+        found.append(Piece(draw.sample(statements, len(statements)), gates, pairs, exits))
+    return found
+
+
+def piece_labels(piece, row):
+    """All labels of a piece's statements if gates in have those of a row, straight from the words."""
+    statements, ins, objections, _ = piece.parts()
+    gates = dict(zip(ins, row))
+    found = []
+    for labels in label_rows(len(statements)):
+        known = dict(zip(statements, labels), **gates)
+        told = {name: [known[one] for one, other in objections if other == name] for name in statements}
+        if all(
+            known[name] == ("in" if set(told[name]) <= {"out"} else "out" if "in" in told[name] else "undecided")
+            for name in statements
+        ):
+            found.append(known)
+    return found
+
+
+def table_by_words(piece, way):
+    """The table of a piece, straight from the words."""
+    _, ins, _, outs = piece.parts()
+    table = {}
+    for row in label_rows(len(ins), LABELS[:2] if way == "settled" else LABELS):
+        found = piece_labels(piece, row)
+        if way == "least":
+            found = [
+                labels for labels in found
+                if all(other[name] == label for other in found for name, label in labels.items() if label != "undecided")
+            ]
+        if way == "settled":
+            found = [labels for labels in found if "undecided" not in labels.values()]
+        table[row] = sorted({tuple(labels[name] for name in outs) for labels in found})
+    return table
+
+
+def group_label(grouped, labels, statement):
+    """The label that a statement gets by groups and needs, straight from the words."""
+    _, objections, needs = grouped.parts()
+    groups = [[labels[name] for name in group] for group, other in objections if other == statement]
+    needed = [labels[other] for one, other in needs if one == statement]
+    if all("out" in group for group in groups) and all(label == "in" for label in needed):
+        return "in"
+    if any(all(label == "in" for label in group) for group in groups) or "out" in needed:
+        return "out"
+    return "undecided"
+
+
+def table_label(tabled, labels, statement):
+    """The label that a statement gets by its table, straight from the words."""
+    parents, rows = [(parents, rows) for name, parents, rows in tabled.tables() if name == statement][0]
+    choices = {"in": [True], "out": [False], "undecided": [True, False]}
+    fillings = list(itertools.product(*[choices[labels[parent]] for parent in parents]))
+    if all(filling in rows for filling in fillings):
+        return "in"
+    return "undecided" if any(filling in rows for filling in fillings) else "out"
+
+
+def rule_labellings(names, label_for, way):
+    """The labellings of a way by a rule, as the lists of their labels compare, straight from the words."""
+    found = []
+    for row in label_rows(len(names)):
+        labels = dict(zip(names, row))
+        if all(labels[name] == label_for(labels, name) for name in names):
+            found.append(labels)
+    if way == "settled":
+        return [labels for labels in found if "undecided" not in labels.values()]
+    if way == "greatest":
+        return [labels for labels in found if not any(labels != other and has_all(other, labels) for other in found)]
+    if way == "least":
+        labels = {name: "undecided" for name in names}
+        for _ in names:
+            labels = {name: label_for(labels, name) for name in names}
+        return [labels]
+    return found
+
+
+def has_all(labels, others):
+    """Whether labels have all that others have in or out."""
+    return all(labels[name] == label for name, label in others.items() if label != "undecided")
+
+
+def drawn_groups(many, size, groups, needs, seed):
+    """So many statements with groups and needs, drawn alike each time."""
+    draw = random.Random(seed)
+    found = []
+    for _ in range(many):
+        names = [f"s{at}" for at in range(draw.randint(1, size))]
+        rows = []
+        for _ in range(draw.randint(0, groups)):
+            group = draw.sample(names, draw.choice([least for least in (0, 1, 1, 2, 2, 3, 4) if least <= len(names)]))
+            other = draw.choice(names)
+            if not any(set(group) == set(one) and other == two for one, two in rows):
+                rows.append((tuple(group), other))
+        pairs = list(itertools.product(names, repeat=2))
+        found.append(Grouped(names, rows, draw.sample(pairs, min(len(pairs), draw.randint(0, needs)))))
+    return found
+
+
+def drawn_tables(many, size, parents, seed):
+    """So many statements with tables, drawn alike each time."""
+    draw = random.Random(seed)
+    found = []
+    for _ in range(many):
+        names = [f"s{at}" for at in range(draw.randint(1, size))]
+        tables = []
+        for name in names:
+            known = draw.sample(names, draw.randint(0, min(parents, len(names))))
+            rows = truth_rows(len(known))
+            tables.append((name, tuple(known), draw.sample(rows, draw.randint(0, len(rows)))))
+        found.append(Tabled(tables))
+    return found
+
+
+def plain_labels(debate, words, names):
+    """The labellings of a debate that words stand for, made from the labels of names, straight from the words.
+
+    All labels of names are gone through; each further statement has to get the label that it says, from its own
+    objectors, and each name the label that it gets from its objectors then.
+    """
+    found = []
+    for row in label_rows(len(names)):
+        labels = dict(zip(names, row))
+        labels.update({name: said_label(labels, word) for name, word in words.items()})
+        if all(labels[name] == label_by_words(debate, labels, name) for name in labels):
+            found.append(labels)
+    return found
+
+
+def said_label(labels, word):
+    """The label of a further statement by what it says."""
+    turned = {"in": "out", "out": "in", "undecided": "undecided"}
+    if word[0] == "not":
+        return turned[labels[word[1]]]
+    outs = word[2] if word[0] == "condition" else ()
+    told = [labels[name] for name in word[1]] + [turned[labels[name]] for name in outs]
+    if "out" in told:
+        return "out"
+    return "in" if all(label == "in" for label in told) else "undecided"
 
 
 def all_debates(names):

@@ -46,10 +46,34 @@ FUNCTIONS = {
     "bars": ["bar_of(family, kind)", "is_bar(family, kind, thing)", "kinds_for(family)"],
     "builtdebates": ["debate_for(family, kind)", "exact_debates(family, kind)"],
     "pieces": ["put_in(around, piece)", "cut_out(debate, lot)"],
+    "piecetables": ["table_of(piece, way)", "piece_with(table)"],
+    "surroundings": [
+        "lots_around(around, piece, way)", "around_parting(one, other, way)",
+        "is_around_parting(one, other, way, thing)",
+    ],
+    "joinedpieces": [
+        "pieces_joined(one, other)", "fed_back(piece, number, gate)", "tables_joined(one, other, way)",
+        "table_fed_back(table, way, number, gate)",
+    ],
+    "groups": [
+        "grouped_of(debate)", "is_grouped_labelling(grouped, thing)", "grouped_labellings(grouped, way)",
+        "made_plain(grouped)",
+    ],
+    "needs": ["need_ranks(grouped, lot)", "unrested(grouped, lot)"],
+    "tables": ["is_tabled_labelling(tabled, thing)", "tabled_labellings(tabled, way)"],
+    "conditions": [
+        "conditions(tabled, statement)", "leanings(tabled, statement)", "tables_made_plain(tabled)",
+        "by_groups(tabled)", "not_by_groups(tabled)",
+    ],
+    "tabledoubts": [
+        "tabled_rank(tabled, statement)", "tabled_doubt(tabled, statement)", "is_tabled_doubt(tabled, thing)",
+    ],
 }
 CLASSES = {
     "debates": {"Debate(statements, objections)": ["statements", "objections", "__len__", "__eq__"]},
     "pieces": {"Piece(statements, ins, objections, outs)": ["parts", "__eq__"]},
+    "groups": {"Grouped(statements, objections, needs)": ["parts", "__eq__"]},
+    "tables": {"Tabled(tables)": ["tables", "__eq__"]},
 }
 
 
