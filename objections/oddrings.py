@@ -1,21 +1,17 @@
 """Odd rings of objections, and that one is there wherever a greatest lot is not settled."""
 
-from objections.checks import wrong_word
-from objections.debates import name_at, objects_to, towards
+from objections.debates import name_at, towards
 from objections.errors import NotGreatest
 from objections.lotmasks import lot_mask, undecided_by
 from objections.lots import fault_of
 from objections.masks import places_in
 from objections.otherdebates import cut_at
+from objections.rings import is_ring
 
 
 def is_odd_ring(debate, thing):
     """Whether any object is an odd ring."""
-    names = debate.statements()
-    if wrong_word(thing, names) is not None or len(thing) & 1 == 0:
-        return False
-    places = [names.index(name) for name in thing]
-    return all([objects_to(debate, places[turn - 1], place) for turn, place in enumerate(places)])
+    return is_ring(debate, thing) and len(thing) & 1 == 1
 
 
 def odd_ring(debate):

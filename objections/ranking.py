@@ -1,8 +1,8 @@
 """Ranks: how far down answers lead, and the ring that is left where they lead nowhere."""
 
-from objections.debates import against, name_at, names_at, place_of
+from objections.debates import names_at, place_of
 from objections.lotmasks import least_mask, stage_masks, undecided_by
-from objections.masks import places_in
+from objections.rings import ring_within
 
 
 def rank_of(debate, statement):
@@ -31,14 +31,4 @@ def stages(debate):
 
 def left_ring(debate):
     """A ring of statements that are undecided by the least lot, None if there is none."""
-    undecided = undecided_by(debate, least_mask(debate))
-    if undecided == 0:
-        return None
-    # Who is undecided has an undecided objector: going from each to such a one must come back.
-    walk = []
-    place = places_in(undecided)[0]
-    while place not in walk:
-        walk.append(place)
-        place = places_in(against(debate)[place] & undecided)[0]
-    ring = walk[walk.index(place):]
-    return [name_at(debate, member) for member in reversed(ring)]
+    return ring_within(debate, undecided_by(debate, least_mask(debate)))

@@ -11,7 +11,9 @@ from objections.debates import Debate
 from objections.errors import BadLot, DebateError
 from objections.groups import Grouped
 from objections.pieces import Piece
+from objections.rules import Rules
 from objections.tables import Tabled
+from objections.unsure import Unsure
 
 WAYS = ["calm", "held", "whole", "least", "greatest", "settled"]
 HOWS = ["some", "all", "none"]
@@ -51,7 +53,8 @@ def any_objects():
         0, 1, -7, 10 ** 40, True, False, None, "", "a", "ab", "A", "zz9", [], (), {}, [[]], [["a"]], ["a", "a"],
         [None], [True], [1], [[], []], ("none",), {"a": "b"}, {1: 2}, {("a", "b"): []}, {None: None}, ignored, len,
         Debate([], []), Debate(["a"], [("a", "a")]), Piece(["a"], ["g"], [("g", "a")], ["a"]), BadLot(0), DebateError(),
-        Grouped(["a"], [([], "a")], []), Tabled([("a", [], [])]),
+        Grouped(["a"], [([], "a")], []), Tabled([("a", [], [])]), Unsure(Debate(["a"], []), ["a"], []),
+        Rules(["a"], [("a", [], [])]),
     ]
 
 
@@ -254,6 +257,72 @@ def said_label(labels, word):
     if "out" in told:
         return "out"
     return "in" if all(label == "in" for label in told) else "undecided"
+
+
+def drawn_worths(debate, many, seed):
+    """Values of at most so many kinds for all statements, drawn alike each time."""
+    draw = random.Random(seed)
+    return {name: f"v{draw.randrange(many)}" for name in debate.statements()}
+
+
+def worthy_debates():
+    """Pairs of debates and worths, of at most four values."""
+    found = [(Debate([], []), {})]
+    for seed, debate in enumerate(tiny_debates()[1:]):
+        for many in (1, 2):
+            found.append((debate, drawn_worths(debate, many, seed)))
+    for seed, debate in enumerate(drawn_debates(30, 3, 140) + drawn_debates(25, 4, 141) + drawn_debates(12, 5, 142)):
+        found.append((debate, drawn_worths(debate, 2 + seed % 3, seed)))
+    return found
+
+
+def heard(debate, worths, audience):
+    """The debate that an audience hears, straight from the words."""
+    return Debate(debate.statements(), [
+        (one, other) for one, other in debate.objections()
+        if not audience.index(worths[other]) < audience.index(worths[one])
+    ])
+
+
+def audiences_by_words(worths):
+    return sorted(list(row) for row in itertools.permutations(set(worths.values())))
+
+
+def stands_by_words(debate, way, statement, how):
+    lots = lots_by_words(debate, way)
+    return {"some": any, "all": all, "none": lambda truths: not any(truths)}[how](
+        [statement in lot for lot in lots])
+
+
+def drawn_unsure(many, size, things, seed):
+    """So many unsure debates, drawn alike each time."""
+    draw = random.Random(seed)
+    found = []
+    for debate in drawn_debates(many, size, seed):
+        names, pairs = debate.statements(), debate.objections()
+        some = draw.randint(0, min(things, len(names)))
+        found.append(Unsure(debate, draw.sample(names, some), draw.sample(pairs, min(len(pairs), things - some))))
+    return found
+
+
+def fillings_by_words(unsure):
+    """All fillings: all statements but some of maybe, all objections between but some of perhaps."""
+    full = unsure.full()
+    found = []
+    for gone in subsets(unsure.maybe()):
+        names = [name for name in full.statements() if name not in gone]
+        for lacking in subsets(unsure.perhaps()):
+            pairs = [pair for pair in full.objections() if set(pair) <= set(names) and pair not in lacking]
+            if (names, pairs) not in found:
+                found.append((names, pairs))
+    return [Debate(names, pairs) for names, pairs in sorted(found)]
+
+
+def least_by_words(debate):
+    """The labels by the least lot."""
+    lot = lots_by_words(debate, "least")[0]
+    return {name: "in" if name in lot else "out" if objects(debate, lot, name) else "undecided"
+            for name in debate.statements()}
 
 
 def all_debates(names):

@@ -68,12 +68,45 @@ FUNCTIONS = {
     "tabledoubts": [
         "tabled_rank(tabled, statement)", "tabled_doubt(tabled, statement)", "is_tabled_doubt(tabled, thing)",
     ],
+    "audiences": [
+        "heard_debate(debate, worths, audience)", "all_audiences(debate, worths)", "value_ring(debate, worths)",
+        "is_value_ring(debate, worths, thing)", "raised(debate, worths, audience, value)",
+        "stands_raised(debate, worths)",
+    ],
+    "forwhom": [
+        "audiences_for(debate, worths, way, statement, how)", "sure_ones(debate, worths, way, how)",
+        "possible_ones(debate, worths, way, how)", "audience_lots(debate, worths)",
+        "apart_at(debate, worths, one, other)", "counted_alike(debate, worths)",
+    ],
+    "orderpairs": [
+        "audiences_kept(debate, worths, pairs)", "pairs_fault(debate, worths, way, statement, how, pairs)",
+        "fewest_pairs(debate, worths, way, statement, how)", "exchanges(debate, worths, one, other)",
+        "nearest(debate, worths, audience, way, statement, how)",
+    ],
+    "unsure": ["fillings(unsure)", "is_filling(unsure, thing)", "learned(unsure, thing, there)"],
+    "bestfillings": [
+        "best_filling(unsure, lot)", "worst_filling(unsure, lot)", "first_for(unsure, way, lot)",
+        "first_against(unsure, way, lot)",
+    ],
+    "unsurestanding": [
+        "first_standing(unsure, way, statement, how)", "first_falling(unsure, way, statement, how)",
+        "label_table(unsure)",
+    ],
+    "questions": [
+        "judge_by(way, statement, how)", "judged(unsure, judge)", "fewest_questions(unsure, judge)",
+        "question_tree(unsure, judge)", "is_question_tree(unsure, judge, many, thing)",
+        "break_asker(unsure, judge, asker, many)",
+    ],
+    "chances": ["chances_told(unsure, chances, judge)", "fewest_on_average(unsure, chances, judge)"],
+    "rules": ["follows(known, absent)", "with_rules(known, rules)"],
 }
 CLASSES = {
     "debates": {"Debate(statements, objections)": ["statements", "objections", "__len__", "__eq__"]},
     "pieces": {"Piece(statements, ins, objections, outs)": ["parts", "__eq__"]},
     "groups": {"Grouped(statements, objections, needs)": ["parts", "__eq__"]},
     "tables": {"Tabled(tables)": ["tables", "__eq__"]},
+    "unsure": {"Unsure(debate, maybe, perhaps)": ["full", "maybe", "perhaps", "things", "__eq__"]},
+    "rules": {"Rules(claims, rules)": ["claims", "triples", "__eq__"]},
 }
 
 

@@ -20,6 +20,7 @@ BARRED_NODES = (
     ast.AsyncFunctionDef, ast.AsyncFor, ast.AsyncWith, ast.Await, ast.Global, ast.Nonlocal, ast.Yield, ast.YieldFrom,
     ast.GeneratorExp, ast.Div, ast.MatMult, ast.Try, ast.With, ast.Match, ast.AnnAssign, ast.NamedExpr, ast.Delete,
 )
+LIBRARY = {"math": ["gcd"], "itertools": ["combinations", "permutations"]}
 ON_THE_SPOT = ("zip", "enumerate", "reversed", "range", "items", "keys", "values")
 TAKERS = ("list", "tuple", "dict", "sorted", "sum", "any", "all", "enumerate", "zip", "min", "max")
 
@@ -91,7 +92,12 @@ class TestFiles(unittest.TestCase):
                 behind = behind or not is_import and not isinstance(node, ast.Expr)
             for node in ast.walk(tree):
                 self.assertNotIsInstance(node, ast.Import)
-                if isinstance(node, ast.ImportFrom):
+                if isinstance(node, ast.ImportFrom) and node.module in LIBRARY:
+                    for alias in node.names:
+                        self.assertIn(alias.name, LIBRARY[node.module])
+                        self.assertIsNone(alias.asname)
+                        self.check_library_name(tree, alias.name)
+                elif isinstance(node, ast.ImportFrom):
                     self.assertRegex(node.module, r"^objections\.[a-z]+$")
                     self.assertEqual(node.level, 0)
                     source = node.module.split(".")[1] + ".py"
@@ -106,6 +112,13 @@ class TestFiles(unittest.TestCase):
             free = [name for name in graph if name not in done and all(source in done for source in graph[name])]
             self.assertTrue(free, "files import from each other")
             done.update(free)
+
+    def check_library_name(self, tree, word):
+        """Whether a name of the library is only called, with all arguments by position."""
+        calls = {id(node.func): node for node in ast.walk(tree) if isinstance(node, ast.Call)}
+        for node in ast.walk(tree):
+            if isinstance(node, ast.Name) and node.id == word:
+                self.assertEqual(calls[id(node)].keywords, [])
 
     def test_each_import_is_used_and_stands_once(self):
         for name, (_, tree) in FILES.items():
