@@ -26,8 +26,10 @@ def lies_in(one, other):
 def union_at(masks, places):
     """All places together of the masks that stand at the places."""
     union = 0
-    for place in places_in(places):
-        union = union | masks[place]
+    while places:
+        bit = places & -places
+        union = union | masks[bit.bit_length() - 1]
+        places = places ^ bit
     return union
 
 

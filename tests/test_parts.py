@@ -1,5 +1,7 @@
 """Points 27 and 31: parts, and what is made part by part."""
 
+import itertools
+import random
 import unittest
 
 from objections.debates import Debate
@@ -16,21 +18,27 @@ EXAMPLE = Debate(["a", "b", "c"], [("a", "b"), ("b", "a"), ("b", "c"), ("c", "c"
 PART_WAYS = ["whole", "least", "greatest", "settled"]
 
 
-def leads(debate, one, other):
-    """Whether objections lead, one behind another, from one to other."""
-    reached = {one}
-    while True:
-        further = reached | {name for name in debate.statements() for start in reached if start in met(debate, name)}
-        if further == reached:
-            return other in reached
-        reached = further
+def reached_by_words(debate):
+    """For each statement all to which objections lead from it, one behind another, and itself."""
+    reached = {name: {name} for name in debate.statements()}
+    grown = True
+    while grown:
+        grown = False
+        for one, other in debate.objections():
+            for start in reached:
+                if one in reached[start] and other not in reached[start]:
+                    reached[start].add(other)
+                    grown = True
+    return reached
 
 
 def parts_by_words(debate):
     names = debate.statements()
     waiting = []
+    reached = reached_by_words(debate)
+    mets = {name: met(debate, name) for name in names}
     for name in names:
-        part = [other for other in names if leads(debate, name, other) and leads(debate, other, name)]
+        part = [other for other in names if other in reached[name] and name in reached[other]]
         if part not in waiting:
             waiting.append(part)
     parts = []
@@ -38,7 +46,7 @@ def parts_by_words(debate):
         ahead = [name for part in parts for name in part]
         free = [
             part for part in waiting
-            if all(one in ahead + part for name in part for one in met(debate, name))
+            if all(one in ahead + part for name in part for one in mets[name])
         ]
         parts.append(min(free))
         waiting.remove(min(free))
@@ -159,3 +167,110 @@ class TestByParts(unittest.TestCase):
             with self.assertRaises(NoStatement) as caught:
                 stands_by_parts(EXAMPLE, "whole", thing, None)
             self.assertIs(caught.exception.thing, thing)
+
+
+def great_debates(many, least, most, seed):
+    """Drawn debates of rows of small parts, each objected to by members of some ahead, names in any order."""
+    draw = random.Random(seed)
+    found = []
+    while len(found) < many:
+        size = draw.randint(least, most)
+        names = [f"s{at}" for at in range(size)]
+        draw.shuffle(names)
+        pairs, done = set(), []
+        while len(done) < size:
+            part = names[len(done):len(done) + draw.choice([1, 1, 1, 2, 2, 3, 4, 8])]
+            if len(part) > 1:
+                pairs |= {(part[at - 1], part[at]) for at in range(len(part))}
+                pairs |= {pair for pair in itertools.product(part, repeat=2) if draw.random() < 0.2}
+            elif draw.random() < 0.15:
+                pairs.add((part[0], part[0]))
+            for name in part:
+                pairs |= {(one, name) for one in draw.sample(done, min(len(done), draw.choice([0, 0, 1, 1, 2])))}
+            done += part
+        debate = Debate(names, sorted(pairs))
+        if len(labels_by_parts(debate)) <= 300:
+            found.append(debate)
+    return found
+
+
+def lots_by_all(debate):
+    """The whole, least, greatest and settled lots, by going through all lots as masks."""
+    names = debate.statements()
+    hits = [sum(1 << at for at, name in enumerate(names) if (one, name) in debate.objections()) for one in names]
+    mets = [sum(1 << at for at, name in enumerate(names) if (name, one) in debate.objections()) for one in names]
+    hit = [0]
+    for mask in range(1, 1 << len(names)):
+        last = mask.bit_length() - 1
+        hit.append(hit[mask ^ (1 << last)] | hits[last])
+    whole = [
+        mask for mask in range(1 << len(names)) if not hit[mask] & mask
+        and all((met & ~hit[mask] == 0) == bool(mask >> at & 1) for at, met in enumerate(mets))
+    ]
+    found = {"whole": whole, "least": [one for one in whole if all(one & other == one for other in whole)]}
+    found["greatest"] = [one for one in whole if not any(one != other and one & other == one for other in whole)]
+    found["settled"] = [one for one in whole if one | hit[one] == (1 << len(names)) - 1]
+    return {
+        way: sorted([name for at, name in enumerate(names) if mask >> at & 1] for mask in masks)
+        for way, masks in found.items()
+    }
+
+
+class TestGreatDebates(unittest.TestCase):
+    def test_thirteen_and_fourteen_statements(self):
+        for debate in great_debates(25, 13, 14, 16):
+            right = lots_by_all(debate)
+            self.assertEqual({way: lots_by_parts(debate, way) for way in PART_WAYS}, right)
+            self.check_labels(debate, right["whole"])
+            for way, name in itertools.product(PART_WAYS, debate.statements()[::4]):
+                self.check_stands(debate, way, name, right[way])
+
+    def test_up_to_forty_statements(self):
+        many = 0
+        for debate in great_debates(40, 15, 40, 17):
+            self.assertEqual(parts_of(debate), parts_by_words(debate))
+            lots = {way: lots_by_parts(debate, way) for way in PART_WAYS}
+            self.check_labels(debate, lots["whole"])
+            self.assertEqual(lots["whole"], sorted(lots["whole"]))
+            self.assertEqual(len({tuple(lot) for lot in lots["whole"]}), len(lots["whole"]))
+            for way in PART_WAYS[1:]:
+                self.assertEqual(lots[way], [lot for lot in lots["whole"] if lot in lots[way]])
+            for way, name in itertools.product(PART_WAYS, debate.statements()[::5]):
+                self.check_stands(debate, way, name, lots[way])
+            many = max(many, len(lots["whole"]))
+        self.assertGreater(many, 50)
+
+    def check_labels(self, debate, lots):
+        told = labels_by_parts(debate)
+        self.assertEqual([[name for name in labels if labels[name] == "in"] for labels in told], lots)
+        mets = {name: met(debate, name) for name in debate.statements()}
+        for labels in told:
+            self.assertEqual(list(labels), debate.statements())
+            for name, objectors in mets.items():
+                found = [labels[one] for one in objectors]
+                self.assertEqual(labels[name], "out" if "in" in found else "undecided" if "undecided" in found else "in")
+
+    def check_stands(self, debate, way, name, lots):
+        truths = [name in lot for lot in lots]
+        told = [stands_by_parts(debate, way, name, how) for how in HOWS]
+        self.assertEqual(told, [any(truths), all(truths), not any(truths)])
+
+    def test_inputs_that_took_long(self):
+        names = [f"a{at}" for at in range(40)]
+        pairs = [(names[at], names[at ^ 1]) for at in range(10)]
+        debate = Debate(names, pairs + list(zip(names[10:], names[11:])))
+        told = labels_by_parts(debate)
+        self.assertEqual(len(told), 243)
+        self.check_labels(debate, lots_by_parts(debate, "whole"))
+        self.assertIs(stands_by_parts(debate, "whole", "a30", "all"), True)
+        self.assertIs(stands_by_parts(debate, "whole", "a31", "some"), False)
+        chain = Debate(names, list(zip(names, names[1:])))
+        self.assertEqual(parts_of(chain), [[name] for name in names])
+
+    def test_told_labels_stand_by_themselves(self):
+        debate = Debate(["a", "b", "c"], [("a", "b"), ("b", "a")])
+        one, other, third = labels_by_parts(debate)
+        one.clear()
+        other["c"] = "out"
+        self.assertEqual((list(third), third["c"]), (["a", "b", "c"], "in"))
+        self.assertEqual([labels["c"] for labels in labels_by_parts(debate)], ["in"] * 3)
