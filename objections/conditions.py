@@ -33,7 +33,7 @@ def leanings(tabled, statement):
 
 
 def leaning_at(rows, place):
-    """"up", "down", "both" or "none": which truth at a place can make a row of none."""
+    """Which truths at a place can make a row of none: True is "up", False is "down"."""
     ups = [row for row in rows if row[place] and turned_at(row, place) not in rows]
     downs = [row for row in rows if not row[place] and turned_at(row, place) not in rows]
     if ups:

@@ -57,8 +57,8 @@ def rule_of(grouped):
     statements, objections, needs = grouped.parts()
     bits = {name: 1 << place for place, name in enumerate(statements)}
     groups = {name: [] for name in statements}
-    for group, other in objections:
-        groups[other].append(sum([bits[name] for name in group]))
+    for members, target in objections:
+        groups[target].append(sum([bits[member] for member in members]))
     needed = {name: sum([bits[other] for one, other in needs if one == name]) for name in statements}
 
     def rule(marks):

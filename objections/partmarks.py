@@ -57,7 +57,7 @@ def parts_in_turn(debate, within, favoured):
 def plan_of(debate, within):
     """The steps by which a mask is labelled: statements that are parts by themselves, then one part of several.
 
-    What is known of this part is kept beside it, by the marks of those that object to it from without.
+    A step is a triple of the former, each with its objectors, of the latter, 0 for none, and of its outer objectors.
     """
     plan = []
     run = []
@@ -66,25 +66,28 @@ def plan_of(debate, within):
         if part & (part - 1) == 0:
             run.append((part, met))
         else:
-            plan.append((run, part, met & ~part, {}))
+            plan.append((run, part, met & ~part))
             run = []
-    plan.append((run, 0, 0, {}))
+    plan.append((run, 0, 0))
     return plan
 
 
-def marks_by_plan(debate, plan, way, start):
-    """The labellings of the way, "whole", "greatest" or "settled", behind the marks that are so at the start."""
+def marks_by_plan(debate, plan, way, start, known):
+    """The labellings of the way, "whole", "greatest" or "settled", behind the marks that are so at the start.
+
+    known keeps those of parts, by the marks of their outer objectors.
+    """
     rows = [start]
-    for run, part, outer, known in plan:
+    for run, part, outer in plan:
         if run:
             rows = marks_behind_run(rows, run, way)
         if part:
             grown = []
             for ins, outs in rows:
-                state = (ins & outer, outs & outer)
-                if state not in known:
-                    known[state] = marks_in(debate, part, state, way)
-                grown.extend([(ins | more, outs | others) for more, others in known[state]])
+                key = (part, ins & outer, outs & outer)
+                if key not in known:
+                    known[key] = marks_in(debate, part, ins & outer, outs & outer, way)
+                grown.extend([(ins | more, outs | others) for more, others in known[key]])
             rows = grown
     return rows
 
@@ -104,25 +107,24 @@ def marks_behind_run(rows, run, way):
     return grown
 
 
-def marks_in(debate, part, state, way):
+def marks_in(debate, part, ins, outs, way):
     """The labellings of a part that are of the way, behind the marks of those that object to it from without."""
-    beaten, barred = outer_marks(debate, part, state)
+    beaten, barred = outer_marks(debate, part, ins, outs)
     found = []
     for lot, hits in answering_lots(debate, part & ~barred, part & ~beaten):
-        outs = (beaten | hits) & part
-        if free_in(debate, part & ~barred, part & ~outs) == lot:
-            found.append((lot, outs))
+        hit = (beaten | hits) & part
+        if free_in(debate, part & ~barred, part & ~hit) == lot:
+            found.append((lot, hit))
     if way == "settled":
-        return [(ins, outs) for ins, outs in found if ins | outs == part]
+        return [(lot, hit) for lot, hit in found if lot | hit == part]
     if way == "greatest":
-        tops = topmost([ins for ins, _ in found])
-        return [(ins, outs) for ins, outs in found if ins in tops]
+        tops = topmost([lot for lot, _ in found])
+        return [(lot, hit) for lot, hit in found if lot in tops]
     return found
 
 
-def outer_marks(debate, part, state):
+def outer_marks(debate, part, ins, outs):
     """Which members of a part are put out from without, and which are kept from being in."""
-    ins, outs = state
     beaten = 0
     barred = 0
     for place in places_in(part):
@@ -183,4 +185,4 @@ def marks_of_way(debate, within, way, start):
     """The labellings of a mask that are of the way, behind the marks that are so at the start."""
     if way == "least":
         return [least_marks(debate, within, start)]
-    return marks_by_plan(debate, plan_of(debate, within), way, start)
+    return marks_by_plan(debate, plan_of(debate, within), way, start, {})

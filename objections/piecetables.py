@@ -27,13 +27,14 @@ def table_of(piece, way):
     exits = [place_of(debate, gate) for gate in outs]
     within = mask_at(debate, statements)
     plan = plan_of(debate, within)
+    known = {}
     table = {}
     for row in rows_of(labels_for(way), len(ins)):
         start = marks_of(row, entries)
         if way == "least":
             found = [least_marks(debate, within, start)]
         else:
-            found = marks_by_plan(debate, plan, way, start)
+            found = marks_by_plan(debate, plan, way, start, known)
         table[row] = rows_at(found, exits)
     return table
 

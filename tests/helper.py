@@ -146,7 +146,7 @@ def table_by_words(piece, way):
         if way == "least":
             found = [
                 labels for labels in found
-                if all(other[name] == label for other in found for name, label in labels.items() if label != "undecided")
+                if all(other[name] == labels[name] for other in found for name in labels if labels[name] != "undecided")
             ]
         if way == "settled":
             found = [labels for labels in found if "undecided" not in labels.values()]
@@ -232,6 +232,14 @@ def drawn_tables(many, size, parents, seed):
     return found
 
 
+def round_tables(rows):
+    """Six statements, each with the next four ones as its parents, and with these rows."""
+    names = list("abcdef")
+    return Tabled([
+        (name, tuple(names[(at + turn) % 6] for turn in range(4)), rows) for at, name in enumerate(names)
+    ])
+
+
 def plain_labels(debate, words, names):
     """The labellings of a debate that words stand for, made from the labels of names, straight from the words.
 
@@ -245,6 +253,16 @@ def plain_labels(debate, words, names):
         if all(labels[name] == label_by_words(debate, labels, name) for name in labels):
             found.append(labels)
     return found
+
+
+def plain_of_way(found, way):
+    """Those of all labellings that are of a way, straight from the words."""
+    if way == "settled":
+        return [labels for labels in found if "undecided" not in labels.values()]
+    ins = [{name for name in labels if labels[name] == "in"} for labels in found]
+    if way == "least":
+        return [labels for labels, lot in zip(found, ins) if all(lot <= other for other in ins)]
+    return [labels for labels, lot in zip(found, ins) if not any(lot < other for other in ins)]
 
 
 def said_label(labels, word):

@@ -9,7 +9,8 @@ from objections.groups import Grouped
 from objections.parts import labels_by_parts
 from objections.tables import Tabled, tabled_labellings
 from tests.helper import (
-    Case, any_objects, ascending, drawn_tables, group_label, label_rows, plain_labels, subsets, table_label, truth_rows,
+    Case, any_objects, ascending, drawn_tables, group_label, label_rows, plain_labels, plain_of_way, round_tables,
+    subsets, table_label, truth_rows,
 )
 
 ROWS = [row for row in truth_rows(3) if not (row[0] and row[1]) and not (row[2] and not row[0])]
@@ -19,7 +20,8 @@ EXAMPLE = Tabled([("s", ("x", "y", "z"), ROWS)] + [(name, (), [()]) for name in 
 def functions_of(many):
     """A table for each lot of rows of so many parents, the statement s alone having parents."""
     names = list("abcd")[:many]
-    return [Tabled([("s", tuple(names), rows)] + [(name, (), []) for name in names]) for rows in subsets(truth_rows(many))]
+    others = [(name, (), []) for name in names]
+    return [Tabled([("s", tuple(names), rows)] + others) for rows in subsets(truth_rows(many))]
 
 
 def many_tabled():
@@ -77,7 +79,9 @@ class TestConditions(Case):
         self.assertEqual(leanings(statement="x", tabled=EXAMPLE), {})
 
     def test_edges(self):
-        tabled = Tabled([("a", (), []), ("b", ("b",), []), ("c", ("c",), [(True,), (False,)]), ("d", ("d",), [(True,)])])
+        tabled = Tabled([
+            ("a", (), []), ("b", ("b",), []), ("c", ("c",), [(True,), (False,)]), ("d", ("d",), [(True,)]),
+        ])
         self.assertEqual([conditions(tabled, name) for name in "abcd"], [[((), ())], [((), ())], [], [((), ("d",))]])
         self.assertEqual([leanings(tabled, name) for name in "abcd"], [{}, {"b": "none"}, {"c": "none"}, {"d": "up"}])
 
@@ -102,7 +106,8 @@ class TestConditions(Case):
                     self.assertEqual(told, sides[leaning])
 
     def test_passed_in_another_order(self):
-        turned = Tabled([(name, (), [()]) for name in "zyx"] + [("s", ("z", "x", "y"), [(c, a, b) for a, b, c in ROWS])])
+        rows = [(last, first, middle) for first, middle, last in ROWS]
+        turned = Tabled([(name, (), [()]) for name in "zyx"] + [("s", ("z", "x", "y"), rows)])
         self.assertEqual(conditions(turned, "s"), conditions(EXAMPLE, "s"))
         self.assertEqual(not_by_groups(turned), not_by_groups(EXAMPLE))
 
@@ -140,6 +145,15 @@ class TestMadePlain(Case):
             right = {("condition",) + pair for name in names for pair in conditions(tabled, name)}
             self.assertEqual(least, right)
 
+    def test_so_least_greatest_and_settled_ones_are_such(self):
+        for tabled in many_tabled()[::3]:
+            debate, words = self.check(tabled)
+            names = names_of(tabled)
+            found = plain_labels(debate, words, names)
+            for way in ("least", "greatest", "settled"):
+                told = [{name: labels[name] for name in names} for labels in plain_of_way(found, way)]
+                self.assertEqual(told, tabled_labellings(tabled, way))
+
     def test_there_are_no_other_labellings(self):
         for tabled in drawn_tables(40, 4, 3, 121):
             debate, words = self.check(tabled)
@@ -154,9 +168,8 @@ class TestMadePlain(Case):
         self.assertEqual(told, tabled_labellings(tabled, "whole"))
 
     def test_at_the_limit(self):
-        names = list("abcdef")
-        rows = [row for row in truth_rows(4) if sum(row) == 2]
-        tabled = Tabled([(name, tuple(names[(at + turn) % 6] for turn in range(4)), rows) for at, name in enumerate(names)])
+        tabled = round_tables([row for row in truth_rows(4) if sum(row) == 2])
+        names = names_of(tabled)
         debate, words = self.check(tabled)
         told = [{name: labels[name] for name in names} for labels in plain_labels(debate, words, names)]
         self.assertEqual(told, tabled_labellings(tabled, "whole"))

@@ -40,7 +40,8 @@ class TestAudiencesFor(Case):
                 found = {name: audiences_by_standing(debate, worths, way, name, how) for name in debate.statements()}
                 for name in found:
                     self.assertEqual(audiences_for(debate, worths, way, name, how), found[name])
-                self.assertEqual(sure_ones(debate, worths, way, how), [name for name in found if found[name] == audiences])
+                sure = [name for name in found if found[name] == audiences]
+                self.assertEqual(sure_ones(debate, worths, way, how), sure)
                 self.assertEqual(possible_ones(debate, worths, way, how), [name for name in found if found[name]])
 
     def test_facts(self):

@@ -8,7 +8,7 @@ from objections.groups import Grouped, grouped_labellings, grouped_of, is_groupe
 from objections.parts import labels_by_parts
 from tests.helper import (
     LABELS, Case, any_objects, ascending, drawn_groups, group_label, has_all, label_rows, labellings_by_words,
-    not_lists, not_words, plain_labels, rule_labellings, small_debates, subsets,
+    not_lists, not_words, plain_labels, plain_of_way, rule_labellings, small_debates, subsets,
 )
 
 WAYS = ["whole", "least", "greatest", "settled"]
@@ -206,6 +206,15 @@ class TestMadePlain(Case):
             told = plain_labels(debate, words, names)
             cut = [{name: labels[name] for name in names} for labels in told]
             self.assertEqual(cut, grouped_labellings(grouped, "whole"))
+
+    def test_so_least_greatest_and_settled_ones_are_such(self):
+        for grouped in many_grouped()[::2]:
+            debate, words = self.check(grouped)
+            names = grouped.parts()[0]
+            found = plain_labels(debate, words, names)
+            for way in WAYS[1:]:
+                told = [{name: labels[name] for name in names} for labels in plain_of_way(found, way)]
+                self.assertEqual(told, grouped_labellings(grouped, way))
 
     def test_there_are_no_other_labellings(self):
         for grouped in many_grouped()[::9] + drawn_groups(30, 6, 8, 5, 91):

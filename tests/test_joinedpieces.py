@@ -117,7 +117,8 @@ class TestJoined(Case):
 
 class TestFedBack(Case):
     def test_parts(self):
-        self.assertEqual(fed_back(ONE, 0, 1), Piece(["b", "a"], ["z"], [("z", "a"), ("b", "a"), ("b", "b")], ["b", "a"]))
+        self.assertEqual(fed_back(ONE, 0, 1),
+                         Piece(["b", "a"], ["z"], [("z", "a"), ("b", "a"), ("b", "b")], ["b", "a"]))
         self.assertEqual(fed_back(gate=0, number=1, piece=ONE),
                          Piece(["b", "a"], ["g"], [("a", "a"), ("b", "a"), ("g", "b")], ["b", "a"]))
         # An objection of both stands once.

@@ -248,7 +248,8 @@ class TestGreatDebates(unittest.TestCase):
             self.assertEqual(list(labels), debate.statements())
             for name, objectors in mets.items():
                 found = [labels[one] for one in objectors]
-                self.assertEqual(labels[name], "out" if "in" in found else "undecided" if "undecided" in found else "in")
+                right = "undecided" if "undecided" in found else "in"
+                self.assertEqual(labels[name], "out" if "in" in found else right)
 
     def check_stands(self, debate, way, name, lots):
         truths = [name in lot for lot in lots]

@@ -5,7 +5,7 @@ import itertools
 from objections.errors import NoStatement
 from objections.tabledoubts import is_tabled_doubt, tabled_doubt, tabled_rank
 from objections.tables import Tabled, tabled_labellings
-from tests.helper import Case, any_objects, ascending, drawn_tables, subsets, table_label, truth_rows
+from tests.helper import Case, any_objects, ascending, drawn_tables, round_tables, subsets, table_label, truth_rows
 
 NOT = [(False,)]
 SAME = [(True,)]
@@ -130,8 +130,10 @@ class TestDoubts(Case):
         good = {"d": ((False,), (True,))}
         self.assertIs(is_tabled_doubt(thing=good, tabled=CHAIN), True)
         self.assertIs(is_tabled_doubt(CHAIN, {"d": [[False], [True]]}), True)
-        odd = any_objects() + [list(good), list(good.items()), good | {"f": ((), ())}, good | {5: 5}, good | {None: None}]
-        odd += [{"d": thing} for thing in any_objects()] + [{"d": ((False,), thing)} for thing in any_objects() if thing != [True]]
+        odd = any_objects() + [list(good), list(good.items())]
+        odd += [good | {"f": ((), ())}, good | {5: 5}, good | {None: None}]
+        odd += [{"d": thing} for thing in any_objects()]
+        odd += [{"d": ((False,), thing)} for thing in any_objects() if thing != [True]]
         odd += [{"d": (thing, (True,))} for thing in any_objects()]
         odd += [{"d": ((False,), (True,), ())}, {"d": ((False,),)}, {"d": ((0,), (1,))}, {"d": ((False,), (1,))},
                 {"d": ((False, False), (True,))}, {"d": ((True,), (False,))}, {"d": ((False,), (False,))},
@@ -140,8 +142,6 @@ class TestDoubts(Case):
             self.assertIs(is_tabled_doubt(CHAIN, thing), False)
 
     def test_at_the_limit(self):
-        names = list("abcdef")
-        rows = [row for row in truth_rows(4) if sum(row) in (1, 2)]
-        tabled = Tabled([(name, tuple(names[(at + turn) % 6] for turn in range(4)), rows) for at, name in enumerate(names)])
-        for name in names:
+        tabled = round_tables([row for row in truth_rows(4) if sum(row) in (1, 2)])
+        for name in names_of(tabled):
             self.assertTrue(is_doubt_by_words(tabled, tabled_doubt(tabled, name)))

@@ -6,8 +6,8 @@ from objections.debates import Debate
 from objections.errors import BadTables, BadWay
 from objections.tables import Tabled, is_tabled_labelling, tabled_labellings
 from tests.helper import (
-    LABELS, Case, any_objects, ascending, drawn_tables, has_all, label_rows, not_lists, not_words, rule_labellings,
-    table_label, truth_rows,
+    LABELS, Case, any_objects, ascending, drawn_tables, has_all, label_rows, not_lists, not_words, round_tables,
+    rule_labellings, table_label, truth_rows,
 )
 
 WAYS = ["whole", "least", "greatest", "settled"]
@@ -114,7 +114,8 @@ class TestTabled(Case):
 
 class TestLabellings(Case):
     def test_plain_ones(self):
-        self.assertEqual(tabled_labellings(Tabled([("a", (), []), ("b", (), [()])]), "whole"), [{"a": "out", "b": "in"}])
+        plain = Tabled([("a", (), []), ("b", (), [()])])
+        self.assertEqual(tabled_labellings(plain, "whole"), [{"a": "out", "b": "in"}])
         itself = Tabled([("a", ("a",), SAME)])
         self.assertEqual(tabled_labellings(itself, "whole"), [{"a": label} for label in LABELS])
         self.assertEqual(tabled_labellings(way="greatest", tabled=itself), [{"a": "in"}, {"a": "out"}])
@@ -139,14 +140,12 @@ class TestLabellings(Case):
             self.assertTrue(all(has_all(labels, least) for labels in tabled_labellings(tabled, "whole")))
 
     def test_at_the_limit(self):
-        names = list("abcdef")
         rows = [row for row in truth_rows(4) if sum(row) in (1, 2)]
         for share in (rows, truth_rows(4), [], rows[:3] + truth_rows(4)[-2:]):
-            tabled = Tabled([
-                (name, tuple(names[(at + turn) % 6] for turn in range(4)), share) for at, name in enumerate(names)
-            ])
+            tabled = round_tables(share)
             for way in WAYS:
-                self.assertEqual(tabled_labellings(tabled, way), rule_labellings(names, labels_for(tabled), way))
+                right = rule_labellings(names_of(tabled), labels_for(tabled), way)
+                self.assertEqual(tabled_labellings(tabled, way), right)
 
     def test_new_each_time(self):
         tabled = Tabled([("a", ("a",), SAME)])
