@@ -3,8 +3,9 @@
 from objections.audiences import all_audiences, check_audience, heard_at, values_of
 from objections.debates import full_mask, name_at, names_at, place_of
 from objections.labels import check_how, stands_among
-from objections.lotmasks import WAYS, check_way, hit_by, least_mask, masks_of
+from objections.lotmasks import WAYS, check_way, least_mask, masks_of
 from objections.masks import first_place
+from objections.partmarks import least_of
 
 
 def heard_by_all(debate, worths):
@@ -80,16 +81,10 @@ def apart_at(debate, worths, one, other):
     values = values_of(debate, worths)
     check_audience(values, one)
     check_audience(values, other)
-    ins, outs = least_labels(heard_at(debate, worths, one))
-    other_ins, other_outs = least_labels(heard_at(debate, worths, other))
+    ins, outs = least_of(heard_at(debate, worths, one))
+    other_ins, other_outs = least_of(heard_at(debate, worths, other))
     apart = (ins ^ other_ins) | (outs ^ other_outs)
     return name_at(debate, first_place(apart)) if apart else None
-
-
-def least_labels(debate):
-    """The marks of the least lot: who is in, and who is out."""
-    least = least_mask(debate)
-    return (least, hit_by(debate, least))
 
 
 def counted_alike(debate, worths):

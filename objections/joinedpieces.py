@@ -76,7 +76,8 @@ def table_fed_back(table, way, number, gate):
 
 def check_number(number, lengths):
     """NoGate for what is no index in rows of these lengths, which are alike; any is let where there is no row."""
-    if not (is_index(number, lengths[0]) if lengths else is_number(number)):
+    is_right = is_index(number, lengths[0]) if lengths else is_number(number)
+    if not is_right:
         raise NoGate(number)
 
 

@@ -1,6 +1,6 @@
 """Parts of debates as masks, and labellings as marks that are made part by part."""
 
-from objections.debates import against, towards
+from objections.debates import against, full_mask, towards
 from objections.masks import first_place, lies_in, places_in, reached_from, topmost, union_at
 
 
@@ -179,6 +179,11 @@ def least_marks(debate, within, start):
             else:
                 waiting.append(place)
     return (ins, outs)
+
+
+def least_of(debate):
+    """The least labelling of all statements."""
+    return least_marks(debate, full_mask(debate), (0, 0))
 
 
 def marks_of_way(debate, within, way, start):

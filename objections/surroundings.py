@@ -46,13 +46,14 @@ def around_for(row, many, barred):
     names = fresh_names(barred, 1 + len(row) + 3 * many)
     striker = names[0]
     exits = names[1:1 + len(row)]
+    others = names[1 + len(row):]
     objections = [(striker, name) for name, label in zip(exits, row) if label == "out"]
     statements = ([striker] if objections else []) + exits
     objections.extend([(name, name) for name, label in zip(exits, row) if label == "undecided"])
     ins = []
     for number in range(many):
         # Where the gate is out the first one is in, where it is in the second one; else none of both.
-        gate, first, second = names[1 + len(row) + 3 * number:4 + len(row) + 3 * number]
+        gate, first, second = others[3 * number:3 * number + 3]
         ins.append(gate)
         statements.extend([first, second])
         objections.extend([(gate, first), (first, second)])

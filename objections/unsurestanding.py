@@ -1,8 +1,10 @@
 """Who stands in which fillings of an unsure debate."""
 
 from objections.debates import check_statement, is_statement
-from objections.labels import check_how, labels_at, stands
-from objections.lotmasks import WAYS, check_way, hit_by, least_mask
+from objections.labels import check_how, stands
+from objections.lotmasks import WAYS, check_way
+from objections.marks import labels_by
+from objections.partmarks import least_of
 from objections.unsure import fillings
 
 
@@ -29,13 +31,5 @@ def first_found(unsure, way, statement, how, truth):
 
 def label_table(unsure):
     """The dict, ascending, from all statements to the ascending lists of what they are in fillings."""
-    rows = [labels_by_least(filling) for filling in fillings(unsure)]
-    return {
-        name: sorted({row.get(name, "gone") for row in rows}) for name in unsure.full().statements()
-    }
-
-
-def labels_by_least(debate):
-    """The labels by the least lot."""
-    least = least_mask(debate)
-    return labels_at(debate, least, hit_by(debate, least))
+    rows = [labels_by(filling.statements(), least_of(filling)) for filling in fillings(unsure)]
+    return {name: sorted({row.get(name, "gone") for row in rows}) for name in unsure.full().statements()}
