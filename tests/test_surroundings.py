@@ -200,14 +200,15 @@ class TestParting(Case):
             self.check(one, Piece(["y"] + names[1:], ["g", "h"], [("h", "y")], ["y", "x3"]), way)
 
     def test_the_same_for_equal_pieces(self):
-        one, other = drawn_pieces(30, 5, 1, 2, 69)[2:4]
-        gates = len(one.parts()[1]), len(one.parts()[3])
-        other = [piece for piece in drawn_pieces(90, 5, 1, 2, 70)
-                 if (len(piece.parts()[1]), len(piece.parts()[3])) == gates
-                 and table_of(piece, "whole") != table_of(one, "whole")][0]
-        copy = Piece(*[part if at in (1, 3) else part[::-1] for at, part in enumerate(one.parts())])
-        self.assertEqual(around_parting(one, other, "whole"), around_parting(copy, other, "whole"))
-        self.assertEqual(around_parting(one, other, "whole"), around_parting(one, other, "whole"))
+        names, pairs = ["s", "t", "u"], [("g", "s"), ("s", "t"), ("t", "u"), ("u", "t"), ("h", "u")]
+        other = Piece(["s", "t"], ["g", "h"], [("h", "s"), ("s", "t")], ["t", "s"])
+        one = Piece(names, ["g", "h"], pairs, ["t", "u"])
+        turned = Piece(tuple(names[::-1]), ("g", "h"), [list(pair) for pair in pairs[::-1]], ("t", "u"))
+        for way in WAYS:
+            told = around_parting(one, other, way)
+            self.assertIsNotNone(told)
+            self.assertEqual(around_parting(turned, other, way), told)
+            self.assertEqual(around_parting(one, other, way), told)
 
     def test_what_parts(self):
         one, other = Piece(["s"], ["g"], [("g", "s")], ["s"]), Piece(["s", "t"], ["g"], [("s", "s")], ["s"])
