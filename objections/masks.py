@@ -23,6 +23,14 @@ def lies_in(one, other):
     return one & ~other == 0
 
 
+def parts_within(mask):
+    """All masks that lie in a mask."""
+    parts = [0]
+    for place in places_in(mask):
+        parts = parts + [part | (1 << place) for part in parts]
+    return parts
+
+
 def union_at(masks, places):
     """All places together of the masks that stand at the places."""
     union = 0
