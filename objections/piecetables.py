@@ -20,6 +20,11 @@ def table_of(piece, way):
     """The dict from the rows of labels for gates in to the lists of rows that gates out have then."""
     check_piece(piece)
     check_way(way, TABLE_WAYS)
+    return table_for(piece, way, rows_of(labels_for(way), len(piece.parts()[1])))
+
+
+def table_for(piece, way, rows):
+    """The table of some rows for gates in alone."""
     statements, ins, objections, outs = piece.parts()
     # Gates in are put in as statements that have their labels already.
     debate = Debate(statements + ins, objections)
@@ -29,7 +34,7 @@ def table_of(piece, way):
     plan = plan_of(debate, within)
     known = {}
     table = {}
-    for row in rows_of(labels_for(way), len(ins)):
+    for row in rows:
         start = marks_of(row, entries)
         if way == "least":
             found = [least_marks(debate, within, start)]
@@ -37,6 +42,34 @@ def table_of(piece, way):
             found = marks_by_plan(debate, plan, way, start, known)
         table[row] = rows_at(found, exits)
     return table
+
+
+def unlike_rows(one, other, labels):
+    """Rows of the labels for gates in, of both, one for all that the statements of both meet alike.
+
+    A statement meets some in, or none but some undecided, or out alone: it is the same which gates these are.
+    """
+    rows = {(0, 0): ()}
+    for targets in targets_of(one, other):
+        grown = {}
+        for (beaten, barred), row in rows.items():
+            more = {"in": (beaten | targets, barred & ~targets), "out": (beaten, barred)}
+            more["undecided"] = (beaten, barred | targets & ~beaten)
+            for label in labels:
+                grown[more[label]] = row + (label,)
+        rows = grown
+    return list(rows.values())
+
+
+def targets_of(one, other):
+    """For each number the mask of the statements of both to which the gates in of this number object."""
+    statements, ins, objections, _ = one.parts()
+    others, other_ins, other_objections, _ = other.parts()
+    return [
+        sum([1 << place for place, name in enumerate(statements) if (gate, name) in objections])
+        + sum([1 << len(statements) + place for place, name in enumerate(others) if (twin, name) in other_objections])
+        for gate, twin in zip(ins, other_ins)
+    ]
 
 
 def rows_at(found, places):

@@ -10,6 +10,7 @@ import unittest
 from objections.debates import Debate
 from objections.errors import BadLot, DebateError
 from objections.groups import Grouped
+from objections.halls import Hall
 from objections.pieces import Piece
 from objections.rules import Rules
 from objections.tables import Tabled
@@ -54,7 +55,7 @@ def any_objects():
         [None], [True], [1], [[], []], ("none",), {"a": "b"}, {1: 2}, {("a", "b"): []}, {None: None}, ignored, len,
         Debate([], []), Debate(["a"], [("a", "a")]), Piece(["a"], ["g"], [("g", "a")], ["a"]), BadLot(0), DebateError(),
         Grouped(["a"], [([], "a")], []), Tabled([("a", [], [])]), Unsure(Debate(["a"], []), ["a"], []),
-        Rules(["a"], [("a", [], [])]),
+        Rules(["a"], [("a", [], [])]), Hall(),
     ]
 
 

@@ -99,6 +99,47 @@ FUNCTIONS = {
     ],
     "chances": ["chances_told(unsure, chances, judge)", "fewest_on_average(unsure, chances, judge)"],
     "rules": ["follows(known, absent)", "with_rules(known, rules)"],
+    "readings": ["readings(known, way)", "is_reading(known, way, thing)"],
+    "arguments": [
+        "supports(known, claim)", "arguments(known)", "debate_of(known)", "reading_of(known, lot)",
+        "lot_behind(known, reading)",
+    ],
+    "showings": ["is_showing(known, claim, thing)", "showing_of(known, claim)", "undecided_in(known, claim)"],
+    "levels": ["levels(known)", "is_walk(known, thing)", "unless_walk(known)", "odd_walk(known)"],
+    "rulepairs": ["pairs_of(known)", "parting_rules(one, other)", "is_parting(one, other, thing)"],
+    "prices": [
+        "overhearing(debate, objections)", "price_of(debate, weights, way, lot)",
+        "overheard_for(debate, weights, way, lot)",
+    ],
+    "budgets": [
+        "greatest_by(debate, weights, budget)", "budget_table(debate, weights)",
+        "least_budget(debate, weights, statement)", "cheapest_lot(debate, weights, statement)",
+        "most_for(debate, weights, statement, budget)",
+    ],
+    "rises": [
+        "cheapest_rise(debate, weights, statement)", "cheapest_fall(debate, weights, statement)",
+        "with_answer(debate, statement, name)",
+    ],
+    "benches": ["merged(bench, quota)", "merged_by(bench, rule)", "thin_link(bench, quota, ring)"],
+    "winning": [
+        "winning_lots(rule, judges)", "vetoers(rule, judges)", "fewest_apart(rule, judges)", "is_ringless(debate)",
+        "ring_bench(rule, judges, many)",
+    ],
+    "kept": ["is_kept(way, judges, quota)", "spoiling_bench(way, judges, quota)"],
+    "verdicts": [
+        "let_stand(bench, statement)", "standing_by(bench, quota)", "clash_sure(judges, quota, other)",
+        "clash_bench(judges, quota, other)", "fewest_silenced(bench, quota, statement)",
+        "alone_for(bench, quota, statement)",
+    ],
+    "toldverdicts": ["verdict(debate, table)", "are_twins(one, other)", "least_twin(debate)", "told_back(names, judge)"],
+    "records": [
+        "fitting(names, records)", "sure_objections(names, records)", "possible_objections(names, records)",
+        "record_clash(names, records)",
+    ],
+    "askers": [
+        "questions_left(names, records)", "best_tables(names, records)", "beat_asker(names, records, asker, many)",
+    ],
+    "halltexts": ["write_hall(hall)", "read_hall(text)"],
 }
 CLASSES = {
     "debates": {"Debate(statements, objections)": ["statements", "objections", "__len__", "__eq__"]},
@@ -107,6 +148,10 @@ CLASSES = {
     "tables": {"Tabled(tables)": ["tables", "__eq__"]},
     "unsure": {"Unsure(debate, maybe, perhaps)": ["full", "maybe", "perhaps", "things", "__eq__"]},
     "rules": {"Rules(claims, rules)": ["claims", "triples", "__eq__"]},
+    "halls": {"Hall()": [
+        "now", "speakers", "watched", "do(deed)", "is_question(thing)", "answer(question)", "would(deed)",
+        "helps(speaker, statement)", "count", "undo", "again", "deeds", "at(number)", "copy", "trial(work)", "__eq__",
+    ]},
 }
 
 
@@ -128,4 +173,11 @@ class TestInterface(unittest.TestCase):
                 self.assertEqual(kind.__name__ + str(inspect.signature(kind)), head)
                 self.assertEqual(kind.__module__, "objections." + file)
                 for method in methods:
-                    self.assertIn(method, vars(kind))
+                    name, _, names = method.rstrip(")").partition("(")
+                    self.assertIn(name, vars(kind))
+                    told = list(inspect.signature(getattr(kind, name)).parameters)[1:]
+                    self.assertEqual(told, names.split(", ") if names else ["other"] if name == "__eq__" else [])
+
+    def test_there_is_nothing_without_its_file(self):
+        """Each file of the interface is named here."""
+        self.assertEqual(len(set(FUNCTIONS) | set(CLASSES)), 50)

@@ -18,11 +18,12 @@ BARRED_WORDS = """type typing typing_extensions enum Enum IntEnum StrEnum Flag I
 namedtuple NamedTuple TypedDict TYPE_CHECKING abstractmethod""".split()
 BARRED_NODES = (
     ast.AsyncFunctionDef, ast.AsyncFor, ast.AsyncWith, ast.Await, ast.Global, ast.Nonlocal, ast.Yield, ast.YieldFrom,
-    ast.GeneratorExp, ast.Div, ast.MatMult, ast.Try, ast.With, ast.Match, ast.AnnAssign, ast.NamedExpr, ast.Delete,
+    ast.GeneratorExp, ast.Div, ast.MatMult, ast.ExceptHandler, ast.With, ast.Match, ast.AnnAssign, ast.NamedExpr, ast.Delete,
 )
-LIBRARY = {"math": ["gcd"], "itertools": ["combinations", "permutations"]}
+LIBRARY = {"heapq": ["heappop", "heappush"], "math": ["gcd"], "itertools": ["combinations", "permutations"]}
 ON_THE_SPOT = ("zip", "enumerate", "reversed", "range", "items", "keys", "values")
-TAKERS = ("list", "tuple", "dict", "sorted", "sum", "any", "all", "enumerate", "zip", "min", "max")
+TAKERS = ("list", "tuple", "dict", "sorted", "sum", "any", "all", "enumerate", "zip", "min", "max",
+          "combinations")
 
 
 def read_files():
@@ -171,6 +172,19 @@ class TestCode(unittest.TestCase):
                     self.assertNotIsInstance(node.op, (ast.Mod, ast.Pow))
                 if isinstance(node, ast.Raise):
                     self.assertIsInstance(node.exc, ast.Call)
+
+    def test_what_is_done_at_last_is_plain(self):
+        """Behind "finally" attributes are given names that stood ahead of the try, and nothing else."""
+        for name, (_, tree) in FILES.items():
+            for part in functions(tree):
+                for turn, node in enumerate(part.body):
+                    if isinstance(node, ast.Try):
+                        self.assertEqual(node.orelse, [])
+                        ahead = {row.targets[0].id for row in part.body[:turn] if isinstance(row, ast.Assign)}
+                        for row in node.finalbody:
+                            self.assertIsInstance(row, ast.Assign, name)
+                            self.assertIsInstance(row.targets[0], ast.Attribute)
+                            self.assertIn(row.value.id, ahead)
 
     def test_names(self):
         barred = set(BARRED_NAMES) | {word for word in vars(builtins)}
