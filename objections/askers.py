@@ -76,8 +76,7 @@ def best_tables(names, records):
     least = least_left(mask, splits, known)
     found = []
     for table, parts in splits:
-        row = parts_by(mask, parts)
-        if len(row) > 1 and left_behind(row, splits, known) == least:
+        if left_behind(parts_by(mask, parts), splits, known) == least:
             found.append(table)
     return found
 
@@ -97,7 +96,7 @@ def beat_asker(names, records, asker, many):
         raise CanBeTold()
     for _ in range(many):
         table = asked_table(names, asker, read)
-        choices = [(told, left & having) for told, having in parts_at(splits, table) if left & having]
+        choices = [(told, left & having) for told, having in parts_at(splits, table)]
         told, left = max(choices, key=lambda choice: least_left(choice[1], splits, known))
         read.append((table, dict(told)))
     one, other = [twins[place] for place in places_in(left)[:2]]

@@ -29,7 +29,7 @@ def shown_in(known, step, ins, outs):
         return []
     _, claim, index = step
     rules = known.triples()
-    if not is_word(claim, known.claims()) or not is_index(index, len(rules)):
+    if not is_index(index, len(rules)):
         return []
     head, body, unless = rules[index]
     is_right = head == claim and all([one in ins for one in body]) and all([one in outs for one in unless])

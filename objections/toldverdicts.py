@@ -62,7 +62,7 @@ def told_back(names, judge):
 
 def asked_verdict(judge, table):
     """What a judge tells of a table, ascending, or BadVerdict."""
-    told = judge(tuple(table))
+    told = judge(table)
     if read_marks(table, told) is None:
         raise BadVerdict(table, told)
     return {name: told[name] for name in table}

@@ -10,12 +10,11 @@ from objections.lotmasks import least_mask
 def let_stand(bench, statement):
     """How many judges have a statement in their least lots."""
     check_bench(bench)
-    place_of(bench[0], statement)
     return many_letting(bench, statement)
 
 
 def many_letting(debates, statement):
-    """Of how many debates the least lot has a statement."""
+    """Of how many debates the least lot has a statement, or NoStatement."""
     return len([debate for debate in debates if is_let(debate, statement)])
 
 

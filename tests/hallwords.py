@@ -1,8 +1,5 @@
 """A hall done step by step from the words of section 15, and deeds drawn for it."""
 
-import itertools
-import random
-
 from objections import errors
 from objections.debates import Debate
 from objections.pieces import Piece
@@ -250,8 +247,3 @@ def drawn_deed(draw, model, names):
     if word == "free" and model.asked and draw.random() < 0.7:
         return (word, draw.choice(model.asked)[0])
     return (word, drawn_question(draw, names))
-
-
-def all_lots_questions(names):
-    """Each question of the kind "alike" about some names."""
-    return list(itertools.product(["alike"], subsets(names), subsets(names), TABLE_WAYS))

@@ -38,7 +38,8 @@ class TestSupports(Case):
             self.assertEqual(arguments(known), rows)
 
     def test_edges(self):
-        known = Rules(["a", "b", "c", "d"], [("a", [], []), ("b", ["a"], []), ("c", ["c"], ["b"]), ("d", [], ["c", "d"])])
+        known = Rules(["a", "b", "c", "d"], [
+            ("a", [], []), ("b", ["a"], []), ("c", ["c"], ["b"]), ("d", [], ["c", "d"])])
         self.assertEqual([supports(known, claim) for claim in "abcd"], [[[]], [[]], [], [["c", "d"]]])
         self.assertEqual(arguments(known), [("a", ()), ("b", ()), ("d", ("c", "d"))])
         self.assertEqual(arguments(Rules([], [])), [])

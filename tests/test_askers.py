@@ -204,7 +204,8 @@ class TestBeaten(Case):
             self.refuses(NoTable, {"thing": thing}, beat_asker, ["a", "b"], [],
                          lambda records: asked.append(records) or thing, 2)
             self.assertEqual(len(asked), 1)
-        self.refuses(NoTable, {"thing": None}, beat_asker, ["a", "b"], [], lambda records: ["a"] if not records else None, 2)
+        self.refuses(
+            NoTable, {"thing": None}, beat_asker, ["a", "b"], [], lambda records: None if records else ["a"], 2)
         with self.assertRaises(ZeroDivisionError):
             beat_asker(["a", "b"], [], lambda _: 1 // 0, 1)
         self.assertEqual(beat_asker(["a", "b"], [], lambda _: 1 // 0, 0)[0], [])
@@ -228,8 +229,8 @@ class TestBeaten(Case):
             if left:
                 asker = drawn_asker(names, 5)
                 again = [[table[::-1], dict(reversed(share.items()))] for table, share in records]
-                self.assertEqual(
-                    beat_asker(names, records, asker, left - 1), beat_asker(tuple(names), tuple(again), asker, left - 1))
+                told = beat_asker(tuple(names), tuple(again), asker, left - 1)
+                self.assertEqual(beat_asker(names, records, asker, left - 1), told)
 
 
 class TestFacts(Case):

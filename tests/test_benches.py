@@ -36,7 +36,8 @@ class TestMerged(Case):
                 self.assertEqual(merged_by(tuple(bench), rule_from(answers)), rule_merged(bench, answers))
         self.assertEqual(merged_by(rule=lambda truths: True, bench=[A]).objections(), [
             ("a", "a"), ("a", "b"), ("b", "a"), ("b", "b")])
-        self.assertEqual(merged_by([A, B], lambda truths: truths == (False, True)).objections(), [("b", "a"), ("b", "b")])
+        told = merged_by([A, B], lambda truths: truths == (False, True))
+        self.assertEqual(told.objections(), [("b", "a"), ("b", "b")])
 
     def test_how_a_rule_is_asked(self):
         for bench in many_benches():

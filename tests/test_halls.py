@@ -172,7 +172,8 @@ class TestQuestions(Case):
 
     def test_is_question(self):
         hall = hall_by(*EXAMPLE)
-        for question in self.all_questions(["a", "b", "c"]) + [("alike", ["a"], ("b", "c"), "whole"), ("won", "nobody")]:
+        right = [("alike", ["a"], ("b", "c"), "whole"), ("alike", (), [], "settled"), ("won", "nobody")]
+        for question in self.all_questions(["a", "b", "c"]) + right:
             self.assertIs(hall.is_question(question), True)
             self.assertIs(hall.is_question(thing=list(question)), True)
         odd = [
@@ -311,8 +312,17 @@ class TestDeeds(Case):
         hall.do(("hold", LABEL))
         self.assertEqual(hall.watched(), [(("rank", "b"), 0, False), (LABEL, "out", True)])
 
+    def test_what_is_held_stays_so(self):
+        hall = hall_by(*EXAMPLE[:4], ("hold", WON), ("watch", LABEL), ("hold", ("rank", "b")), ("hold", LABEL))
+        self.assertEqual([(question, held) for question, _, held in hall.watched()], [
+            (WON, True), (LABEL, True), (("rank", "b"), True)])
+        hall.do(("watch", ("lots", "whole")))
+        hall.do(("free", LABEL))
+        self.assertEqual([held for _, _, held in hall.watched()], [True, True, False])
+
     def test_all_with_a_statement_goes_with_it(self):
-        hall = hall_of(Debate(["a", "b", "c"], [("a", "a"), ("a", "b"), ("b", "a"), ("b", "c"), ("c", "b"), ("c", "c")]))
+        pairs = [("a", "a"), ("a", "b"), ("b", "a"), ("b", "c"), ("c", "b"), ("c", "c")]
+        hall = hall_of(Debate(["a", "b", "c"], pairs))
         hall.do(("watch", ("lots", "calm")))
         self.assertEqual(hall.do(("take", "x", "b")), [(("lots", "calm"), 2, 1)])
         self.assertEqual(hall.now(), Debate(["a", "c"], [("a", "a"), ("c", "c")]))

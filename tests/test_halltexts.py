@@ -164,16 +164,22 @@ class TestTexts(Case):
 
     def test_each_line(self):
         for begun, bad in [
-            ("", ["say x", "say x a b", "say X a", "say x A", "say  x a", "say x a ", " say x a", "say x a,b", "Say x a",
-                  "", " ", "object a b", "watch label a", "take x a", "say x -", "say x " + "a" * 13, "say", "x a", "\r",
-                  "say x a\r", "say\tx a", "watch won", "watch won X", "hold lots tops", "watch alike - -", "watch",
-                  "watch alike  - least", "hold alike - - held", "free won x", "watch watch won x", "watch won x y"]),
-            ("say x b\n", ["say x a", "say x b", "say w c", "say y b", "object b a", "object a b", "object b", "watch label a",
-                           "hold alike b", "hold alike a - whole", "hold alike b,b - whole", "hold alike b, - whole",
-                           "hold alike ,b - whole", "hold alike , - whole", "hold alike -,b - whole", "watch rank -"]),
-            ("say x a\nsay x b\nobject a b\n", ["say x c", "say y c", "object a b", "object a a", "object b", "object b c",
-                                               "object b a a", "hold alike b,a - whole", "watch stands whole a",
-                                               "watch stands whole some a", "watch stands whole a some all"]),
+            ("", [
+                "say x", "say x a b", "say X a", "say x A", "say  x a", "say x a ", " say x a", "say x a,b", "Say x a",
+                "", " ", "object a b", "watch label a", "take x a", "say x -", "say x " + "a" * 13, "say", "x a", "\r",
+                "say x a\r", "say\tx a", "watch won", "watch won X", "hold lots tops", "watch alike - -", "watch",
+                "watch alike  - least", "hold alike - - held", "free won x", "watch watch won x", "watch won x y",
+            ]),
+            ("say x b\n", [
+                "say x a", "say x b", "say w c", "say y b", "object b a", "object a b", "object b", "watch label a",
+                "hold alike b", "hold alike a - whole", "hold alike b,b - whole", "hold alike b, - whole",
+                "hold alike ,b - whole", "hold alike , - whole", "hold alike -,b - whole", "watch rank -",
+            ]),
+            ("say x a\nsay x b\nobject a b\n", [
+                "say x c", "say y c", "object a b", "object a a", "object b", "object b c", "object b a a",
+                "hold alike b,a - whole", "watch stands whole a", "watch stands whole some a",
+                "watch stands whole a some all",
+            ]),
             ("say x a\nwatch label a\n", ["watch label a", "hold label a", "say y b", "object a a", "watch Label a"]),
         ]:
             self.assertEqual(self.check(begun), None)
@@ -191,6 +197,10 @@ class TestTexts(Case):
         self.refuses(BadText, {"line": 1}, read_hall, "say x A\nsay x b")
         self.refuses(BadText, {"line": 2}, read_hall, "say x a\nsay x a\nsay x b")
         self.refuses(BadText, {"line": 6}, read_hall, TEXT[:-1])
+
+    def test_who_is_said_twice(self):
+        self.assertEqual(self.check("say x a\nsay x b\nsay y a\nsay z d\nobject a b\n"), 3)
+        self.assertEqual(self.check("say x a\nsay x b\nsay y c\nsay z b\nsay z d\nwatch label a\n"), 4)
 
     def test_no_string(self):
         for thing in any_objects() + [TEXT.encode(), list(TEXT), TEXT.split("\n")]:

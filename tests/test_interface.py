@@ -131,7 +131,9 @@ FUNCTIONS = {
         "clash_bench(judges, quota, other)", "fewest_silenced(bench, quota, statement)",
         "alone_for(bench, quota, statement)",
     ],
-    "toldverdicts": ["verdict(debate, table)", "are_twins(one, other)", "least_twin(debate)", "told_back(names, judge)"],
+    "toldverdicts": [
+        "verdict(debate, table)", "are_twins(one, other)", "least_twin(debate)", "told_back(names, judge)",
+    ],
     "records": [
         "fitting(names, records)", "sure_objections(names, records)", "possible_objections(names, records)",
         "record_clash(names, records)",

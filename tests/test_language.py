@@ -18,7 +18,8 @@ BARRED_WORDS = """type typing typing_extensions enum Enum IntEnum StrEnum Flag I
 namedtuple NamedTuple TypedDict TYPE_CHECKING abstractmethod""".split()
 BARRED_NODES = (
     ast.AsyncFunctionDef, ast.AsyncFor, ast.AsyncWith, ast.Await, ast.Global, ast.Nonlocal, ast.Yield, ast.YieldFrom,
-    ast.GeneratorExp, ast.Div, ast.MatMult, ast.ExceptHandler, ast.With, ast.Match, ast.AnnAssign, ast.NamedExpr, ast.Delete,
+    ast.GeneratorExp, ast.Div, ast.MatMult, ast.ExceptHandler, ast.With, ast.Match, ast.AnnAssign, ast.NamedExpr,
+    ast.Delete,
 )
 LIBRARY = {"heapq": ["heappop", "heappush"], "math": ["gcd"], "itertools": ["combinations", "permutations"]}
 ON_THE_SPOT = ("zip", "enumerate", "reversed", "range", "items", "keys", "values")

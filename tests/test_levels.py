@@ -108,7 +108,9 @@ class TestWalks(Case):
         both = Rules(["a", "b"], [("a", ["b"], ["b"]), ("b", ["a"], [])])
         self.assertEqual(len(odd_walk(both)), 2)
         self.assertEqual(many_unless(odd_walk(both)), 1)
-        self.assertIs(is_walk(both, [("a", "body", "b"), ("b", "body", "a"), ("a", "unless", "b"), ("b", "body", "a")]), True)
+        walk = [("a", "body", "b"), ("b", "body", "a"), ("a", "unless", "b"), ("b", "body", "a")]
+        self.assertIs(is_walk(both, walk), True)
+        self.assertIs(is_walk(both, walk[:3]), False)
 
     def test_odd_walks_among_even_rings(self):
         known = Rules(["a", "b", "c", "d", "e"], [

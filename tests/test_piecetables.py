@@ -7,7 +7,7 @@ from objections.debates import Debate
 from objections.errors import BadPiece, BadTable, BadWay, NotRising
 from objections.joinedpieces import tables_joined
 from objections.pieces import Piece, cut_out, put_in
-from objections.piecetables import piece_with, table_of
+from objections.piecetables import piece_with, table_for, table_of, unlike_rows
 from tests.helper import (
     LABELS, Case, any_objects, ascending, drawn_debates, drawn_pieces, label_rows, long_debate, not_pieces, not_words,
     subsets, table_by_words,
@@ -96,6 +96,35 @@ class TestTableOf(Case):
         for way in ("whole", "least"):
             self.assertEqual(table_of(around, way), {(label,): [("out",)] for label in LABELS})
             self.assertEqual(table_of(piece, way), {(label,): [(label,)] for label in LABELS})
+
+    def test_unlike_rows(self):
+        """For all rows of labels some of these has the same in the tables of both pieces; a few may be enough."""
+        pieces = drawn_pieces(250, 4, 3, 3, 58)
+        fewer = 0
+        for gates in range(4):
+            alike = [piece for piece in pieces if len(piece.parts()[1]) == gates]
+            for (one, other), way in itertools.product(zip(alike, alike[1:]), WAYS):
+                labels = LABELS[:2] if way == "settled" else LABELS
+                rows = unlike_rows(one, other, labels)
+                tables = [table_of(piece, way) for piece in (one, other)]
+                self.assertLessEqual(set(rows), set(tables[0]))
+                self.assertEqual(len(rows), len(set(rows)))
+                fewer += len(rows) < len(tables[0])
+                some = [table_for(piece, way, rows) for piece in (one, other)]
+                self.assertEqual(some, [{row: table[row] for row in rows} for table in tables])
+                pairs = [(tables[0][row], tables[1][row]) for row in tables[0]]
+                for row in rows:
+                    self.assertIn((some[0][row], some[1][row]), pairs)
+                for pair in pairs:
+                    self.assertIn(pair, [(some[0][row], some[1][row]) for row in rows])
+        self.assertGreater(fewer, 100)
+
+    def test_few_rows_for_many_gates(self):
+        """Nine gates to one statement: in some, in none but undecided in some, out in all."""
+        gates = [f"g{at}" for at in range(9)]
+        one = Piece(["a"], gates, [(gate, "a") for gate in gates], ["a"])
+        self.assertEqual(len(unlike_rows(one, one, LABELS)), 3)
+        self.assertEqual(len(unlike_rows(one, one, LABELS[:2])), 2)
 
     def test_new_each_time(self):
         told = table_of(P, "whole")

@@ -59,7 +59,8 @@ class TestRises(Case):
 
     def test_of_equal_weights_the_first_list(self):
         """[("a", "c"), ("b", "c")] weighs as much as [("d", "e")] and is the first one as lists compare."""
-        debate = Debate(["a", "b", "c", "d", "e"], [("a", "c"), ("b", "c"), ("d", "a"), ("d", "b"), ("e", "d"), ("d", "e")])
+        debate = Debate(["a", "b", "c", "d", "e"], [
+            ("a", "c"), ("b", "c"), ("d", "a"), ("d", "b"), ("e", "d"), ("d", "e")])
         weights = {("a", "c"): 1, ("b", "c"): 1, ("d", "a"): 9, ("d", "b"): 9, ("e", "d"): 2, ("d", "e"): 9}
         self.assertEqual(cheapest_rise(debate, weights, "c"), (2, [("a", "c"), ("b", "c")]))
         self.assertEqual(cheapest_by_words(debate, weights, "c", True), (2, [("a", "c"), ("b", "c")]))
@@ -98,7 +99,8 @@ class TestOneWordMore(Case):
         self.assertEqual(told.statements(), ["a", "b", "c", "x"])
         self.assertEqual(told.objections(), RING.objections() + [("x", "c")])
         both = Debate(["b", "a"], [("a", "a"), ("b", "a"), ("a", "b")])
-        self.assertEqual(with_answer(name="z9", statement="a", debate=both).objections(), both.objections() + [("z9", "b")])
+        told = with_answer(name="z9", statement="a", debate=both)
+        self.assertEqual(told.objections(), both.objections() + [("z9", "b")])
         self.assertEqual(with_answer(Debate(["a"], []), "a", "b"), Debate(["a", "b"], []))
 
     def test_one_is_enough_or_none_is(self):

@@ -69,7 +69,8 @@ class TestTwins(Case):
         self.assertEqual(least_twin(one).objections(), [("a", "a"), ("a", "b")])
         self.assertEqual(least_twin(Debate(["a", "b"], [("b", "b"), ("a", "b"), ("b", "a")])).objections(), [
             ("b", "a"), ("b", "b")])
-        self.assertEqual(least_twin(Debate(["a", "b"], [("a", "a"), ("b", "a")])).objections(), [("a", "a"), ("b", "a")])
+        pairs = [("a", "a"), ("b", "a")]
+        self.assertEqual(least_twin(Debate(["a", "b"], pairs)).objections(), pairs)
         self.assertEqual(least_twin(debate=Debate(["a", "b"], [("a", "b"), ("b", "a")])).objections(), [
             ("a", "b"), ("b", "a")])
 

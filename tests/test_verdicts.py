@@ -129,7 +129,8 @@ class TestSilenced(Case):
                     fit = [row for row in rows if in_least(merged_without(bench, quota, row), name)]
                     self.assertEqual(fewest_silenced(bench, quota, name), list(fit[0]))
                     stood = in_least(merged_without(bench, quota, []), name)
-                    turning = [judge for judge in judges if in_least(merged_without(bench, quota, [judge]), name) != stood]
+                    turning = [
+                        judge for judge in judges if in_least(merged_without(bench, quota, [judge]), name) != stood]
                     self.assertEqual(alone_for(bench, quota, name), turning)
                     self.assertEqual(fewest_silenced(bench, quota, name) == [], stood)
 
