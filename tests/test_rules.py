@@ -3,21 +3,8 @@
 from objections.errors import BadAbsent, BadClaims, BadRules
 from objections.rules import Rules, follows, with_rules
 from tests.helper import Case, any_objects, not_lists, subsets
+from tests.rulewords import EIGHT, K, K_TRIPLES, follows_by_words
 
-TRIPLES = [("a", [], ["b"]), ("b", [], ["a"]), ("c", ["a"], []), ("c", ["b"], [])]
-K = Rules(["a", "b", "c"], TRIPLES)
-EIGHT = [f"c{at}" for at in range(8)]
-
-
-def follows_by_words(known, absent):
-    come = set()
-    while True:
-        further = come | {
-            head for head, body, unless in known.triples() if set(unless) <= set(absent) and set(body) <= come
-        }
-        if further == come:
-            return sorted(come)
-        come = further
 
 
 def thirty_rules():
@@ -52,9 +39,9 @@ class TestRules(Case):
 
     def test_equal_by_both_lists_and_to_nothing_else(self):
         for other in (
-            Rules(["a", "b", "c", "d"], TRIPLES), Rules(["a", "b", "c"], TRIPLES[::-1]),
-            Rules(["a", "b", "c"], TRIPLES[:3]), Rules(["a", "b", "c"], TRIPLES + TRIPLES[3:]),
-            Rules(["a", "b", "c"], TRIPLES[:3] + [("c", [], ["b"])]),
+            Rules(["a", "b", "c", "d"], K_TRIPLES), Rules(["a", "b", "c"], K_TRIPLES[::-1]),
+            Rules(["a", "b", "c"], K_TRIPLES[:3]), Rules(["a", "b", "c"], K_TRIPLES + K_TRIPLES[3:]),
+            Rules(["a", "b", "c"], K_TRIPLES[:3] + [("c", [], ["b"])]),
         ):
             self.assertFalse(K == other)
             self.assertTrue(K != other)
@@ -90,7 +77,7 @@ class TestRules(Case):
                 self.refuses(BadRules, {"index": 2}, call, [("a", [], []), ("a", [], []), thing, None])
 
     def test_with_rules(self):
-        told = with_rules(K, [("c", ["b", "a"], ["c"]), TRIPLES[0]])
+        told = with_rules(K, [("c", ["b", "a"], ["c"]), K_TRIPLES[0]])
         self.assertEqual(told.claims(), K.claims())
         self.assertEqual(told.triples(), K.triples() + [("c", ("a", "b"), ("c",)), ("a", (), ("b",))])
         self.assertEqual(with_rules(rules=(), known=K), K)
