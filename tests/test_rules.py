@@ -6,7 +6,6 @@ from tests.helper import Case, any_objects, not_lists, subsets
 from tests.rulewords import EIGHT, K, K_TRIPLES, follows_by_words
 
 
-
 def thirty_rules():
     """Rules between eight claims, some with long bodies, some that hold one behind another."""
     rules = [(EIGHT[at + 1], [EIGHT[at]], []) for at in range(7)]
